@@ -1,0 +1,1 @@
+"""Backinstep: copies of a device that get out of step and back."""

@@ -1,0 +1,100 @@
+"""The names of the interface: where they stand, and with which parameters. Points [2] and [4]."""
+
+import importlib
+import inspect
+import unittest
+
+FUNCTIONS = {
+    "devices": """check_counts(device, counts) row_counts(device, row) row_lot(device, row) joined_effects(one, other)
+        said_effect(effect, times) effect_places(effect) effect_left(effect) check_pieces(device, pieces)
+        pieces_length(pieces) pieces_effect(device, pieces) pieces_counts(device, pieces) cut_device(device, states)
+        few_signals(device, lot)""",
+    "turns": "ring_numbers(turn) first_unlike(one, other)",
+    "texts": "device_text(device) read_device(text)",
+    "webs": "web_districts(device) outsiders(device) district_of(device, state)",
+    "forms": """renamed_device(device, names) swapped_signals(device, signals) doubled_signal(device, signal)
+        alike_names(one, other) own_names(device)""",
+    "stairs": """is_stair(value) stair_of(width, vectors) stair_rest(stair, vector) in_stair(stair, vector)
+        stair_size(stair) all_rests(stair) stair_within(one, other) sum_stair(one, other) both_stair(one, other)
+        stair_parts(stair)""",
+    "hours": """step_sum(hours, state, signal) device_hours(device) hour_total(device) hour_name(device, state)
+        like_pairs(device) hours_paper(device) check_hours(device, value) hours_holds(device, value)""",
+    "strides": """least_rings(hours) enough_number(hours) few_walk(hours, one, other, counts)
+        great_walk(hours, one, other, counts)""",
+    "dealings": """all_dealings(hours) joined_dealing(one, other) met_dealing(one, other) labels_dealing(hours, labels)
+        is_commuting(hours, labels) widest_dial(hours, weights) is_dial(hours, weights, modulus)
+        dial_at(hours, weights, modulus, state) dial_total(hours, modulus) all_dials(hours, modulus)
+        hour_exponent(hours)""",
+    "families": """check_family(device, family) plain_family(device) least_lots(device, family)
+        is_full(device, family, lot) is_round(device, family, row) cut_places(device, family, row)
+        round_count(device, family, row) is_stricter(device, one, other) either_family(device, one, other)
+        both_family(device, one, other) meeting_lots(device, family)""",
+    "sure": """is_sure(device, family, pair) sure_pairs(device, family) far_pairs(device, family)
+        needed_lots(device, pair) weakest_family(device, pairs) apart_paper(device, family, pair)
+        apart_holds(device, family, value) sure_paper(device, family) sure_holds(device, family, value)
+        joining_row(device, pair) stuck_row(device, pair) chance_pairs(device)""",
+}
+CLASSES = {
+    ("devices", "Device"): """__init__(tables) step(state, signal) after(state, row) effect(row) places(row)
+        left_alone(row)""",
+    ("turns", "Turn"): "__init__(device, row) said_at(times) left_at(times) square_at() core()",
+    ("webs", "Web"): """__init__(device, kind) node_after(node, row) knot_of(node) reached(node) first_row(node, goal)
+        great_lots(node) keeps(node, lot) keep_rows(node, lot) just_lots(node)""",
+    ("hours", "Hours"): """__init__(device, number) hour_at(state) states_at(hour) moved_hour(hour, counts)
+        is_kept(counts) turns_of(counts) hours_list()""",
+    ("dealings", "Dealing"): "__init__(hours, stair)",
+}
+ERRORS = {
+    "at": "BadDevice BadRow BadText BadPieces BadCounts BadFamily Refused PaperFault", "most": "TooGreat",
+    "witness": "NotYes", "pair": "NotSure NoPair", "state": "NoState", "signal": "NoSignal",
+}
+
+
+def told_calls(text):
+    """(name, parameters) of calls that are written one behind another."""
+    calls = []
+    for part in text.split(")")[:-1]:
+        name, parameters = part.split("(")
+        calls.append((name.strip(), [word.strip() for word in parameters.split(",") if word.strip()]))
+    return calls
+
+
+class InterfaceTest(unittest.TestCase):
+
+    def test_functions_stand_in_their_files_with_their_parameters(self):
+        for place, text in FUNCTIONS.items():
+            module = importlib.import_module("backinstep." + place)
+            for name, parameters in told_calls(text):
+                function = getattr(module, name)
+                self.assertEqual(function.__module__, module.__name__, name)
+                self.assertEqual(list(inspect.signature(function).parameters), parameters, name)
+
+    def test_methods_stand_in_their_classes(self):
+        for (place, name), text in CLASSES.items():
+            made = getattr(importlib.import_module("backinstep." + place), name)
+            self.assertEqual(made.__module__, "backinstep." + place)
+            for method, parameters in told_calls(text):
+                self.assertIn(method, vars(made))
+                self.assertEqual(list(inspect.signature(vars(made)[method]).parameters), ["self"] + parameters)
+
+    def test_errors_keep_what_they_are_made_with(self):
+        errors = importlib.import_module("backinstep.errors")
+        for field, names in ERRORS.items():
+            for name in names.split():
+                error = getattr(errors, name)
+                kept = [("any", None), 3]
+                self.assertIs(getattr(error(kept), field), kept)
+                self.assertIs(getattr(error(**{field: kept}), field), kept)
+                self.assertEqual(error.__module__, "backinstep.errors")
+
+    def test_bases_of_errors(self):
+        errors = importlib.import_module("backinstep.errors")
+        self.assertEqual(errors.BackError.__bases__, (ValueError,))
+        for names in ERRORS.values():
+            for name in names.split():
+                base = KeyError if name in ("NoState", "NoSignal", "NoPair") else errors.BackError
+                self.assertEqual(getattr(errors, name).__bases__, (base,))
+
+
+if __name__ == "__main__":
+    unittest.main()
