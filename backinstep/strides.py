@@ -67,7 +67,7 @@ def great_walk(hours, one, other, counts):
         pieces.append((ways[index], 1))
         pieces.append((signals[index] * len(ring), (told[index] - used[index]) // len(ring)))
     pieces.append((last, 1))
-    return tuple([(word, times) for word, times in pieces if word != "" and times > 0])
+    return tuple([(word, times) for word, times in pieces if word != ""])
 
 
 def ring_ways(hours, one, rings):

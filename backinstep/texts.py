@@ -39,8 +39,7 @@ def read_states(line):
     words = line.split(" ")
     if len(words) != 2 or words[0] != "states":
         return 0
-    states = read_number(words[1], MOST_STATES)
-    return states if states > 0 else 0
+    return max(0, read_number(words[1], MOST_STATES))
 
 
 def read_table(line, at, states):

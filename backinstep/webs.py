@@ -115,9 +115,8 @@ class Web:
         return self.held[number] != "" and lies_in(lot, self.held[number])
 
     def stays(self, number, node, sign):
-        """Whether a signal leads a node of a knot to a node of it."""
-        goals = [goal for move, goal in self.moves[node] if move == sign]
-        return self.numbers[node] == number and goals != [] and self.numbers[goals[0]] == number
+        """Whether a signal leads a node into a knot."""
+        return any([move == sign and self.numbers[goal] == number for move, goal in self.moves[node]])
 
     def tour_of(self, number, start, signs):
         """A row within a knot, from a node at which the first of some signals stays in it, with all of them."""
@@ -126,7 +125,7 @@ class Web:
         for sign in signs:
             if sign not in word:
                 rows = self.rows_from(place)
-                # a row that comes to the knot again never leaves it on its way
+                # what leaves the knot never comes to it again, so the way to a node that leads into it is within
                 edge = [node for node in rows if self.stays(number, node, sign)][0]
                 word = word + rows[edge] + sign
                 place = [goal for move, goal in self.moves[edge] if move == sign][0]
@@ -152,7 +151,7 @@ class Web:
 def state_moves(device):
     """By state its steps."""
     tables = list(zip(device.signals, device.tables))
-    return {state: [(sign, table[state]) for sign, table in tables] for state in range(device.states)}
+    return {state: tuple([(sign, table[state]) for sign, table in tables]) for state in range(device.states)}
 
 
 def pair_moves(device):
@@ -161,7 +160,7 @@ def pair_moves(device):
     for one in range(device.states):
         for other in range(one + 1, device.states):
             steps = [(sign, joined_pair(table[one], table[other])) for sign, table in signal_tables(device).items()]
-            moves[(one, other)] = [(sign, goal) for sign, goal in steps if goal is not None]
+            moves[(one, other)] = tuple([(sign, goal) for sign, goal in steps if goal is not None])
     return moves
 
 

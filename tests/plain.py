@@ -58,6 +58,25 @@ class Draw:
         return self.shuffled(lots)[:1 + self.below(min(4, len(lots)))]
 
 
+def clock(modulus, *weights):
+    """The device of one remainder that each signal moves by its weight."""
+    return Device([[(state + weight) % modulus for state in range(modulus)] for weight in weights])
+
+
+def two_clocks(one, other, *weights):
+    """The device of two remainders, side by side in each state."""
+    return Device([
+        [(state // other + a) % one * other + (state + b) % other for state in range(one * other)] for a, b in weights])
+
+
+# with hours of one and of several parts
+CLOCKS = [
+    clock(2, 1), clock(3, 1, 2), clock(4, 1, 2, 3), clock(5, 3, 1), clock(5, 2, 4), clock(6, 1, 4), clock(6, 2, 3),
+    clock(7, 3, 5, 6), clock(8, 3, 1), two_clocks(2, 2, (1, 0), (0, 1)), two_clocks(2, 2, (1, 1), (0, 1), (1, 0)),
+    two_clocks(2, 4, (1, 1), (0, 1)), two_clocks(2, 4, (1, 2), (1, 3)), two_clocks(2, 3, (1, 1), (0, 2)),
+]
+
+
 def small_devices(seed, many, states=4, signals=3):
     draw = Draw(seed)
     return [draw.device(1 + draw.below(states), 1 + draw.below(signals)) for _ in range(many)]

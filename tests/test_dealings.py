@@ -12,7 +12,7 @@ from backinstep.devices import Device
 from backinstep.errors import NoState, Refused
 from backinstep.hours import Hours, device_hours
 from backinstep.stairs import is_stair, stair_parts, stair_size, stair_within
-from tests.plain import Case, Draw, any_values, is_tupled, listed, partitions, small_devices
+from tests.plain import CLOCKS, Case, Draw, any_values, is_tupled, listed, partitions, small_devices
 
 TOLD = Hours(Device([(1, 2, 3, 0), (1, 0, 1, 0)]), 0)
 TWO = Hours(Device([(1, 0, 3, 4, 2, 0), (0, 1, 3, 4, 2, 2)]), 1)
@@ -20,7 +20,8 @@ GREAT = 10 ** 18
 
 
 def hours_of_devices(seed, many, states=5, signals=3):
-    return [hours for device in small_devices(seed, many, states, signals) for hours in device_hours(device)]
+    devices = CLOCKS + small_devices(seed, many, states, signals)
+    return [hours for device in devices for hours in device_hours(device)]
 
 
 def plain_commutes(hours, groups):
@@ -61,6 +62,7 @@ class DealingTest(Case):
                     self.assertEqual(dealing.groups, as_groups(groups))
                     self.assertIn(dealing, all_dealings(hours))
             dealings = all_dealings(hours)
+            self.assertIsInstance(dealings, tuple)
             self.assertEqual(sorted(dealing.groups for dealing in dealings), sorted(good))
             stairs = [dealing.stair for dealing in dealings]
             self.assertEqual(stairs, sorted(set(stairs)))

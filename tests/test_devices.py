@@ -64,6 +64,8 @@ class DeviceTest(Case):
             else:
                 self.refuses(BadDevice, 0, Device, [value])
                 self.refuses(BadDevice, 0, Device, [value, [0]])
+        for wrong in ([0, 2], [2, 0], [0, 3], [-1, 0], [0, -2], [1], [0, 1, 3]):
+            self.refuses(BadDevice, 0, Device, [wrong])
         self.refuses(BadDevice, 0, Device, [[0] * 61])
         self.refuses(BadDevice, 0, Device, [[0] * 61, [0] * 61])
         self.refuses(BadDevice, 0, Device, [[]])
@@ -76,6 +78,9 @@ class DeviceTest(Case):
                 self.refuses(BadDevice, 1, Device, [(0, 1), value])
                 self.refuses(BadDevice, 4, Device, [(0, 1), [0, 0], [0, 1], [1, 1], value])
                 self.refuses(BadDevice, 2, Device, [(0, 1), [0, 0], value, value])
+        for wrong in ([0, 2], [2, 0], [0, 3], [-1, 0], [0, -2]):
+            self.refuses(BadDevice, 1, Device, [[1, 0], wrong])
+        self.refuses(BadDevice, 1, Device, [list(range(60)), [0] * 59 + [60]])
         self.refuses(BadDevice, 1, Device, [(0, 1), (0, 1, 1)])
         self.refuses(BadDevice, 1, Device, [(0, 1), (0,)])
         self.refuses(BadDevice, 1, Device, [(0, 1), (0, True)])

@@ -11,7 +11,7 @@ from backinstep.hours import (
 from backinstep.stairs import all_rests, in_stair, is_stair, stair_of, stair_rest
 from backinstep.webs import outsiders, web_districts
 from tests.plain import (
-    Case, Draw, any_values, bends, end_of, is_tupled, listed, partitions, rows_to, same, small_devices,
+    CLOCKS, Case, Draw, any_values, bends, end_of, is_tupled, listed, partitions, rows_to, same, small_devices,
 )
 
 TOLD = Device([(1, 2, 3, 0), (1, 0, 1, 0)])
@@ -19,7 +19,8 @@ TWO = Device([(1, 0, 3, 4, 2, 0), (0, 1, 3, 4, 2, 2)])
 
 
 def hours_of_devices(seed, many, states=5, signals=3):
-    return [hours for device in small_devices(seed, many, states, signals) for hours in device_hours(device)]
+    devices = CLOCKS + small_devices(seed, many, states, signals)
+    return [hours for device in devices for hours in device_hours(device)]
 
 
 class HoursTest(Case):
@@ -31,8 +32,9 @@ class HoursTest(Case):
         self.assertEqual((hours.walks, hours.size, hours.hours_list()), (("", "a", "aa", "aaa"), 2, ((0, 0), (0, 1))))
 
     def test_attributes(self):
-        for device in small_devices(61, 40, states=5):
+        for device in CLOCKS + small_devices(61, 40, states=5):
             districts = web_districts(device)
+            self.assertIsInstance(device_hours(device), tuple)
             self.assertEqual([hours.district for hours in device_hours(device)], list(districts))
             for number, hours in enumerate(device_hours(device)):
                 self.assertEqual(hours, Hours(device=device, number=number))
@@ -50,6 +52,8 @@ class HoursTest(Case):
     def test_staircase_by_closed_rows(self):
         for hours in hours_of_devices(62, 40, states=4, signals=2):
             device = hours.device
+            if len(device.signals) > 2 or device.states > 6:
+                continue
             closed = set()
             for row in rows_to(device.signals, 8):
                 for state in hours.district:
@@ -98,6 +102,8 @@ class HoursTest(Case):
 
     def test_finest_commuting_grouping(self):
         for hours in hours_of_devices(65, 60, states=5):
+            if hours.device.states > 6:
+                continue
             tables = hours.device.tables
             good = []
             for groups in partitions(list(hours.district)):
@@ -142,7 +148,9 @@ class HoursTest(Case):
         self.assertEqual(hours.moved_hour(hour=(0, 2), counts=(10 ** 18, 1)), stair_rest(hours.stair, (10 ** 18, 3)))
 
     def test_names_and_pairs(self):
-        for device in small_devices(66, 50, states=6):
+        mixed = Device([(0, 1, 1, 0, 1, 0), (3, 2, 4, 5, 1, 0)])
+        self.assertEqual(like_pairs(mixed), ((0, 3), (0, 5), (1, 2), (1, 4), (2, 4), (3, 5)))
+        for device in CLOCKS + [mixed] + small_devices(66, 50, states=6):
             names = [hour_name(device, state) for state in range(device.states)]
             for number, hours in enumerate(device_hours(device)):
                 for state in hours.district:
@@ -247,7 +255,7 @@ class HoursPaperTest(Case):
         return fault
 
     def test_papers_hold(self):
-        for device in small_devices(71, 60, states=8, signals=5):
+        for device in CLOCKS + small_devices(71, 60, states=8, signals=5):
             paper = hours_paper(device)
             self.assertTrue(is_tupled(paper))
             self.assertIsNone(self.look(device, paper))
@@ -264,6 +272,9 @@ class HoursPaperTest(Case):
         longer = ("a" * 10000,) + walks[1:]
         self.assertEqual(self.look(TOLD, (word, [(district, ("a" * 10004,) + walks[1:], stair, shares)])), 1)
         self.look(TOLD, (word, [(district, longer, stair, shares)]))
+        for narrow in (((1,),), [[1], [1]], ((1, 1),), ((1, 0, 0), (0, 1, 0), (0, 0, 1))):
+            for told in (shares, shares[:1], shares + ((),), (((0, "b", -1), (0, "a", 0)),), (shares[0], ())):
+                self.assertEqual(self.look(TOLD, (word, [(district, walks, narrow, told)])), 1)
         finer = ((1, 1), (0, 4))
         self.assertEqual(self.look(TOLD, (word, [(district, walks, finer, shares)])), 1)
 

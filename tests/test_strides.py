@@ -7,14 +7,15 @@ from backinstep.devices import Device, check_pieces, pieces_counts, pieces_effec
 from backinstep.errors import BadCounts, NoState, Refused, TooGreat
 from backinstep.hours import Hours, device_hours
 from backinstep.strides import enough_number, few_walk, great_walk, least_rings
-from tests.plain import Case, Draw, any_values, end_of, is_tupled, small_devices
+from tests.plain import CLOCKS, Case, Draw, any_values, end_of, is_tupled, small_devices
 
 TOLD = Hours(Device([(1, 2, 3, 0), (1, 0, 1, 0)]), 0)
 TWO = Hours(Device([(1, 0, 3, 4, 2, 0), (0, 1, 3, 4, 2, 2)]), 1)
 
 
 def hours_of_devices(seed, many, states=4, signals=3):
-    return [hours for device in small_devices(seed, many, states, signals) for hours in device_hours(device)]
+    devices = CLOCKS + small_devices(seed, many, states, signals)
+    return [hours for device in devices for hours in device_hours(device)]
 
 
 def plain_walk(hours, one, other, counts):
@@ -78,6 +79,8 @@ class FewWalkTest(Case):
 
     def test_great_counts(self):
         for hours in hours_of_devices(83, 40, states=8, signals=2):
+            if len(hours.device.signals) > 2:
+                continue
             counts = [140, 140][:len(hours.device.signals)]
             for one, other in itertools.product(hours.district, repeat=2):
                 row = few_walk(hours, one, other, counts)
@@ -122,6 +125,13 @@ class GreatWalkTest(Case):
         self.assertEqual(spread(hours), 3600)
         self.look(hours, 7, 53, (enough_number(hours), enough_number(hours) + 14))
         self.look(hours, 7, 53, (enough_number(hours), enough_number(hours) + 13))
+
+    def test_just_not_too_great(self):
+        device = Device([[(state + step) % 50 for state in range(50)] for step in (1, 1, 25)])
+        hours = Hours(device, 0)
+        self.assertEqual((spread(hours), enough_number(hours)), (5000, 5147))
+        self.look(hours, 3, 6, (5147, 5152, 5148))
+        self.look(hours, 3, 6, (5147, 5153, 5148))
 
     def test_too_great(self):
         device = Device([[(state + step) % 60 for state in range(60)] for step in (1, 7, 59)])

@@ -265,6 +265,12 @@ class SurePaperTest(Case):
         self.assertFalse(sure_holds(LINE, ["ab"], ["sure", [[[0, 1], 1]], ["a"]]))
         self.assertFalse(sure_holds(LINE, ["ab"], ["sure", [[[0, 2], 0]], ["a"]]))
         self.assertFalse(sure_holds(LINE, ["ab"], ["sure", [[[0, 1], 0], [[0, 1], 0]], ["a"]]))
+        rising = Device([(0, 0, 0), (0, 2, 2)])
+        self.assertTrue(sure_holds(rising, ["a"], ["sure", [[[0, 1], 0], [[0, 2], 0]], ["a", "a"]]))
+        self.assertTrue(sure_holds(rising, ["a"], ["sure", [[[0, 1], 1], [[0, 2], 0]], ["a", "a"]]))
+        self.assertFalse(sure_holds(rising, ["a"], ["sure", [[[0, 1], 0], [[0, 2], 1]], ["a", "a"]]))
+        self.assertFalse(sure_holds(rising, ["a"], ["sure", [[[0, 1], 0], [[0, 2], 0]], ["ab", "a"]]))
+        self.assertTrue(sure_holds(rising, ["ab"], ["sure", [[[0, 1], 1], [[0, 2], 0]], ["a", "ab"]]))
 
     def test_wide(self):
         for device in WIDE:

@@ -9,7 +9,11 @@ from backinstep.webs import Web, district_of, outsiders, web_districts
 from tests.plain import Case, Draw, any_values, end_of, is_tupled, lots_of, pair_end, rows_to, small_devices
 
 WIDE = Draw(31).device(60, 5)
-EDGES = [Device([[0]]), Device([[0]] * 5), Device([[0, 1]]), Device([[1, 0], [1, 1]])]
+# in the last one a signal that a knot holds leads some of its nodes out of it
+EDGES = [
+    Device([[0]]), Device([[0]] * 5), Device([[0, 1]]), Device([[1, 0], [1, 1]]),
+    Device([(3, 0, 2, 2), (1, 0, 3, 2)]),
+]
 
 
 def plain_nodes(device, kind):
@@ -197,7 +201,7 @@ class KeepTest(Case):
         self.assertTrue(closed != "" and set(lot) <= set(closed))
 
     def test_all_lots(self):
-        for device in EDGES + small_devices(37, 40):
+        for device in EDGES + small_devices(37, 250):
             for kind in ("states", "pairs"):
                 web = Web(device, kind)
                 for node in web.nodes:
@@ -212,7 +216,7 @@ class KeepTest(Case):
                             self.assertIsNone(web.keep_rows(node=node, lot=lot))
 
     def test_just_lots(self):
-        for device in EDGES + small_devices(38, 40):
+        for device in EDGES + small_devices(38, 120):
             for kind in ("states", "pairs"):
                 web = Web(device, kind)
                 for node in web.nodes:
