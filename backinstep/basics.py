@@ -1,6 +1,6 @@
 """What every part asks of a value: integers, sequences, states, rows, lots, pairs."""
 
-from backinstep.errors import BadRow, NoPair, NoSignal, NoState
+from backinstep.errors import BadRow, NoPair, NoSignal, NoState, Refused
 
 MOST_NUMBER = 10 ** 18
 MOST_ROW = 10000
@@ -65,6 +65,12 @@ def is_lot(device, value):
     if not isinstance(value, str) or len(value) > len(device.signals):
         return False
     return value == "".join([sign for sign in device.signals if sign in value])
+
+
+def check_number(value, least=0, most=MOST_NUMBER):
+    """Raise Refused for any value that is no integer from least to most."""
+    if not is_number_to(value, least, most):
+        raise Refused(value)
 
 
 def check_state(device, value):

@@ -103,3 +103,47 @@ def meeting_lots(device, family):
     """The least lots that have a signal in common with each lot of a family."""
     told = check_family(device, family)
     return least_of([lot for lot in all_lots(device.signals) if meets_all(lot, told)])
+
+
+def lot_steps(device, family):
+    """By (lot since the last cut, signal) the lot behind the signal, "" if there is a cut; for a checked family."""
+    steps = {}
+    for lot in ("",) + all_lots(device.signals):
+        for sign in device.signals:
+            more = "".join(sorted(set(lot + sign)))
+            steps[(lot, sign)] = "" if fills(family, more) else more
+    return steps
+
+
+def led_from(moves_of, places):
+    """The places to which rows lead some places, these too, in the order in which they are found."""
+    queue = list(places)
+    seen = {place: True for place in queue}
+    at = 0
+    while at < len(queue):
+        place = queue[at]
+        for _, goal in moves_of(place):
+            if goal not in seen:
+                seen[goal] = True
+                queue.append(goal)
+        at += 1
+    return queue
+
+
+def behind_round(moves_of, steps, places):
+    """The places to which rounds, perhaps with more signals, lead some places."""
+    ahead = {}
+    queue = [(place, "") for place in places]
+    seen = {node: True for node in queue}
+    at = 0
+    while at < len(queue):
+        place, lot = queue[at]
+        for sign, goal in moves_of(place):
+            node = (goal, steps[(lot, sign)])
+            if node[1] == "":
+                ahead[goal] = True
+            elif node not in seen:
+                seen[node] = True
+                queue.append(node)
+        at += 1
+    return led_from(moves_of, list(ahead))

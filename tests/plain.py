@@ -224,3 +224,65 @@ class Case(unittest.TestCase):
             return call(*things)
         except (ValueError, KeyError) as error:
             return type(error), list(vars(error).values())
+
+
+def plain_round(family, row):
+    """Whether a row has all signals of some lot."""
+    return any(set(lot) <= set(row) for lot in family)
+
+
+def cuts_of(family, row):
+    """How many rounds a row has, cut from the left."""
+    many, given = 0, set()
+    for sign in row:
+        given.add(sign)
+        if plain_round(family, given):
+            many, given = many + 1, set()
+    return many
+
+
+def grouped(states, pairs):
+    """The classes that joining pairs makes, by least states."""
+    groups = [{state} for state in range(states)]
+    for one, other in pairs:
+        mine = [group for group in groups if group & {one, other}]
+        groups = [group for group in groups if not group & {one, other}] + [set().union(*mine)]
+    return tuple(sorted(tuple(sorted(group)) for group in groups))
+
+
+def plain_most(device, family, start, step, longest=None):
+    """The most cuts of a row along which a place is led to places, None if there is no most.
+
+    `step(place, sign)` tells the next place, or None; `longest` the most signals of a round, and of what is behind the
+    last one less one. Behind more cuts than there are places one place is cut twice.
+    """
+    seen = {(start, frozenset(), 0, 0)}
+    queue = list(seen)
+    most = 0
+    for place, given, since, cuts in queue:
+        for sign in device.signals:
+            goal = step(place, sign)
+            if goal is None:
+                continue
+            more = given | {sign}
+            node = (goal, more, since + 1 if longest else 0, cuts)
+            if plain_round(family, more):
+                node = (goal, frozenset(), 0, cuts + 1)
+            elif longest and since + 1 >= longest:
+                continue
+            most = max(most, node[3])
+            if most > 2 ** device.states:
+                return None
+            if node not in seen:
+                seen.add(node)
+                queue.append(node)
+    return most
+
+
+def plain_rounds(device, family, pair, longest=None):
+    """The most rounds of a row that keeps a pair apart, by a plain search."""
+    return plain_most(device, family, pair, lambda place, sign: pair_end(device, place, sign), longest)
+
+
+def places_after(device, states, row):
+    return tuple(sorted({end_of(device, state, row) for state in states}))

@@ -33,6 +33,28 @@ FUNCTIONS = {
         needed_lots(device, pair) weakest_family(device, pairs) apart_paper(device, family, pair)
         apart_holds(device, family, value) sure_paper(device, family) sure_holds(device, family, value)
         joining_row(device, pair) stuck_row(device, pair) chance_pairs(device)""",
+    "classes": """sure_classes(device, family) chance_classes(device) class_numbers(device, family)
+        class_device(device, family) fewest_notes(device, family) class_stairs(device, family)
+        enough_rounds(device, family) places_bound(device, family, many) out_paper(device, family)
+        out_stairs(device, family) out_holds(device, family, value)""",
+    "kept": """tower_groupings(device, family) tower_numbers(device, family) most_rounds(device, family, pair)
+        rounds_table(device, family) round_steps(device, family, pair) apart_row(device, family, pair, many)
+        kept_numbers(device, family, pair, length) most_paper(device, family, pair)
+        most_holds(device, family, pair, value) tower_device(groupings)""",
+    "paced": """paced_numbers(device, family, pace) paced_classes(device, family, pace) least_pace(device, family, pair)
+        endless_row(device, family, pair, pace) longest_row(device, family, pair, pace)
+        longest_apart(device, family, pair, pace)""",
+    "places": """most_places(device, family) places_row(device, family, many) places_kept(device, family)
+        apart_rounds(device, family, states) sides_bound(device, family, many)""",
+    "verdicts": """wrong_knots(device, family=None) is_yes(device, family=None) need_yes(device, family=None)
+        yes_paper(device, family=None) check_yes(device, family, value) yes_holds(device, family, value)
+        no_paper(device, family=None) check_no(device, family, value) no_holds(device, family, value)
+        verdict_paper(device, family=None) verdict_holds(device, family, value)""",
+    "stories": """unlike_paper(device) check_unlike(device, value) unlike_holds(device, value) first_exchange(device)
+        told_numbers(device, counts) squares_agree(device) signals_commute(device)""",
+    "entries": """joint_stair(device) joint_size(device) all_seats(device) all_entries(device) row_entries(device, row)
+        three_things(device, row) made_effect(device, entries, seats, shift) made_row(device, entries, seats, shift)
+        effects_total(device) joined_three(device, one, other)""",
 }
 CLASSES = {
     ("devices", "Device"): """__init__(tables) step(state, signal) after(state, row) effect(row) places(row)
@@ -43,6 +65,7 @@ CLASSES = {
     ("hours", "Hours"): """__init__(device, number) hour_at(state) states_at(hour) moved_hour(hour, counts)
         is_kept(counts) turns_of(counts) hours_list()""",
     ("dealings", "Dealing"): "__init__(hours, stair)",
+    ("kept", "Keeper"): "__init__(device, family, pair) hear(row) standing() more_rounds() next_row()",
 }
 ERRORS = {
     "at": "BadDevice BadRow BadText BadPieces BadCounts BadFamily Refused PaperFault", "most": "TooGreat",
@@ -59,6 +82,11 @@ def told_calls(text):
     return calls
 
 
+def told_parameters(function):
+    """The parameters of a function, with their default values, as they are written."""
+    return [word for word in str(inspect.signature(function))[1:-1].split(", ") if word]
+
+
 class InterfaceTest(unittest.TestCase):
 
     def test_functions_stand_in_their_files_with_their_parameters(self):
@@ -67,7 +95,7 @@ class InterfaceTest(unittest.TestCase):
             for name, parameters in told_calls(text):
                 function = getattr(module, name)
                 self.assertEqual(function.__module__, module.__name__, name)
-                self.assertEqual(list(inspect.signature(function).parameters), parameters, name)
+                self.assertEqual(told_parameters(function), parameters, name)
 
     def test_methods_stand_in_their_classes(self):
         for (place, name), text in CLASSES.items():
@@ -75,7 +103,7 @@ class InterfaceTest(unittest.TestCase):
             self.assertEqual(made.__module__, "backinstep." + place)
             for method, parameters in told_calls(text):
                 self.assertIn(method, vars(made))
-                self.assertEqual(list(inspect.signature(vars(made)[method]).parameters), ["self"] + parameters)
+                self.assertEqual(told_parameters(vars(made)[method]), ["self"] + parameters)
 
     def test_errors_keep_what_they_are_made_with(self):
         errors = importlib.import_module("backinstep.errors")

@@ -31,6 +31,9 @@ BARRED_NAMES = BARRED | set("""attrgetter breakpoint builtins compile copyright 
 WORDS = re.compile(r"\b(type|typing|typing_extensions|enum|Enum|IntEnum|StrEnum|Flag|IntFlag|Generic|Protocol|ABC|ABCMeta|"
                    r"namedtuple|NamedTuple|TypedDict|TYPE_CHECKING|abstractmethod)\b|dataclass|overload|contextmanager")
 DOUBLE = {"__init__", "__eq__", "__repr__", "__str__", "__len__"}
+ALLOWED_KEYWORDS = [
+    ("sorted", "key"), ("sorted", "reverse"), ("min", "key"), ("max", "key"), ("min", "default"), ("max", "default"),
+]
 AT_ONCE = {"list", "tuple", "dict", "sorted", "sum", "any", "all", "enumerate", "zip", "bytes", "min", "max"}
 
 
@@ -171,7 +174,9 @@ class LanguageTest(unittest.TestCase):
             self.assertFalse(node.decorator_list)
             self.assertIsNone(node.returns)
             told = node.args
-            self.assertFalse(told.posonlyargs or told.vararg or told.kwarg or told.defaults or told.kw_defaults)
+            self.assertFalse(told.posonlyargs or told.vararg or told.kwarg)
+            for default in told.defaults + told.kw_defaults:
+                self.assertIsInstance(default, (ast.Constant, ast.Name), f"{name}: {node.name}")
             if node.name.startswith("__"):
                 self.assertIn(node.name, DOUBLE)
         for name, node in self.nodes(ast.ClassDef):
@@ -320,7 +325,7 @@ class LanguageTest(unittest.TestCase):
         for name, node in self.nodes(ast.Call):
             for keyword in node.keywords:
                 told = (called_name(node), keyword.arg)
-                self.assertIn(told, [("sorted", "key"), ("min", "key"), ("max", "key"), ("min", "default")])
+                self.assertIn(told, ALLOWED_KEYWORDS)
 
     def test_loops_leave_alone_what_they_go_over(self):
         for name, node in self.nodes(ast.For):
