@@ -60,11 +60,16 @@ def is_pair(device, value):
     return isinstance(value, tuple) and is_told_pair(device, value)
 
 
+def is_lot_of(signals, value):
+    """Whether any value is a lot of some signals, perhaps the empty one."""
+    if not isinstance(value, str) or len(value) > len(signals):
+        return False
+    return value == "".join([sign for sign in signals if sign in value])
+
+
 def is_lot(device, value):
     """Whether any value is a lot of the device's signals, perhaps the empty one."""
-    if not isinstance(value, str) or len(value) > len(device.signals):
-        return False
-    return value == "".join([sign for sign in device.signals if sign in value])
+    return is_lot_of(device.signals, value)
 
 
 def check_number(value, least=0, most=MOST_NUMBER):

@@ -9,8 +9,9 @@ from backinstep.classes import (
 )
 from backinstep.devices import Device
 from backinstep.errors import BadFamily, Refused
+from backinstep.forms import doubled_signal, renamed_device, swapped_signals
 from backinstep.sure import chance_pairs, is_sure, sure_pairs
-from backinstep.webs import outsiders
+from backinstep.webs import Web, outsiders
 from tests.plain import (
     Case, Draw, any_values, bends, cuts_of, end_of, grouped, is_tupled, listed, lots_of, pairs_of, places_after,
     plain_round, plain_rounds, rows_to, small_devices,
@@ -117,6 +118,46 @@ class ClassTest(Case):
         for call in calls:
             self.refuses(BadFamily, 1, call, LINE, ["a", "ba"])
         self.refuses(BadFamily, 1, places_bound, LINE, ["a", "a"], -1)
+
+
+class OtherNamesTest(Case):
+    """Points [12], [13] and [24] again: other names, signals told twice, two devices side by side."""
+
+    def test_other_names(self):
+        draw = Draw(209)
+        for device, family in drawn(209, 40):
+            names, signals = draw.shuffled(range(device.states)), "".join(draw.shuffled(device.signals))
+            made = renamed_device(device, names)
+            classes = sorted(sorted(names[state] for state in group) for group in sure_classes(device, family))
+            self.assertEqual([list(group) for group in sure_classes(made, family)], classes)
+            self.assertEqual(enough_rounds(made, family), enough_rounds(device, family))
+            web, other = Web(device, "pairs"), Web(made, "pairs")
+            for pair in pairs_of(device):
+                told = tuple(sorted(names[state] for state in pair))
+                self.assertEqual(other.great_lots(told), web.great_lots(pair))
+            swapped = swapped_signals(device, signals)
+            lots = ["".join(sorted(swapped.signals[signals.index(sign)] for sign in lot)) for lot in family]
+            self.assertEqual(class_stairs(swapped, lots), class_stairs(device, family))
+
+    def test_doubled(self):
+        for device, family in drawn(210, 40):
+            made = doubled_signal(device, "a")
+            last = made.signals[-1]
+            # what the doubled signal brings counts as the old one does
+            either = family + [lot.replace("a", "") + last for lot in family if "a" in lot]
+            self.assertEqual(class_stairs(made, either), class_stairs(device, family))
+            self.assertEqual(chance_classes(made), chance_classes(device))
+
+    def test_side_by_side(self):
+        draw = Draw(211)
+        for one, family in drawn(211, 40, states=3, signals=2):
+            other = Device([draw.table(3) for _ in one.signals])
+            beside = Device([[mine[at // 3] * 3 + theirs[at % 3] for at in range(one.states * 3)]
+                             for mine, theirs in zip(one.tables, other.tables)])
+            numbers, left, right = (class_numbers(told, family) for told in (beside, one, other))
+            for at, then in pairs_of(beside):
+                both = left[at // 3] == left[then // 3] and right[at % 3] == right[then % 3]
+                self.assertIs(numbers[at] == numbers[then], both)
 
 
 class OutTest(Case):
