@@ -10,8 +10,8 @@ from backinstep.errors import NotYes, Refused
 from backinstep.families import plain_family
 from backinstep.hours import added, device_hours, hour_total
 from backinstep.spaces import (
-    chain_spaces, effect_load, exchange_loads, is_spanned, is_which_lot, least_multiple, load_behind, spare_load,
-    take_load, unit_loads,
+    chain_spaces, effect_load, exchange_loads, is_right, is_spanned, is_which_lot, least_multiple, load_behind,
+    spare_load, take_load, unit_loads,
 )
 from backinstep.stairs import in_stair, stair_rest
 from backinstep.stories import left_many, unlike_exchange
@@ -85,8 +85,11 @@ def kept_hours(hours_list, counts):
     return sum([hours.size for hours in hours_list if in_stair(hours.stair, counts)])
 
 
-def spanning(start, moves_of, load_of):
-    """The first rows from a thing on, with what they lead it to, whose loads those of earlier ones do not span."""
+def spanning(start, moves_of, load_of, is_found):
+    """The first rows from a thing on, with what they lead it to, whose loads those of earlier ones do not span.
+
+    The last one is the first that is found to be what is asked for, if there is one.
+    """
     basis = {}
     found = []
     seen = {start: True}
@@ -97,6 +100,8 @@ def spanning(start, moves_of, load_of):
         # what comes behind a spanned thing is spanned by what comes behind the others
         if take_load(basis, load_of(thing)):
             found.append((row, thing))
+            if is_found(thing):
+                break
             for sign, goal in moves_of(thing):
                 if goal not in seen:
                     seen[goal] = True
@@ -105,27 +110,28 @@ def spanning(start, moves_of, load_of):
     return found
 
 
-def spanning_effects(device):
-    """The spanning rows, each with its effect."""
+def spanning_effects(device, is_found):
+    """The spanning rows, each with its effect, to the first that is found to be what is asked for."""
     tables = list(zip(device.signals, device.tables))
-    return spanning(
-        tuple(range(device.states)),
-        lambda effect: [(sign, joined_effects(effect, table)) for sign, table in tables],
-        effect_load)
+
+    def moves_of(effect):
+        return [(sign, joined_effects(effect, table)) for sign, table in tables]
+
+    return spanning(tuple(range(device.states)), moves_of, effect_load, is_found)
 
 
 def spanning_rows(device):
     """The first rows whose effects, as tables, are no sums of multiples of those of earlier rows."""
-    return tuple([row for row, _ in spanning_effects(device)])
+    return tuple([row for row, _ in spanning_effects(device, lambda effect: False)])
 
 
 def wrong_exchange(device):
     """The first row and signals whose exchange ahead of it changes the number left alone, None for a right device."""
-    for row, effect in spanning_effects(device):
-        found = unlike_exchange(device, effect, device.signals)
-        if found is not None:
-            return (row,) + found
-    return None
+    if is_right(device):
+        return None
+    signals = device.signals
+    row, effect = spanning_effects(device, lambda told: unlike_exchange(device, told, signals) is not None)[-1]
+    return (row,) + unlike_exchange(device, effect, signals)
 
 
 def chain_paper(device):

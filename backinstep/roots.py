@@ -187,12 +187,16 @@ def parting_row(one, other):
         mine, theirs = ends
         return [(sign, (joined_effects(mine, left), joined_effects(theirs, right))) for sign, left, right in tables]
 
+    def loads_of(ends):
+        return effect_load(ends[0]) + effect_load(ends[1])
+
+    def is_parted(ends):
+        return left_many(ends[0]) != left_many(ends[1])
+
     # what a row leaves alone in both hangs on its two tables, and so on those of the rows that span them
     start = (tuple(range(one.states)), tuple(range(other.states)))
-    for row, ends in spanning(start, moves_of, lambda ends: effect_load(ends[0]) + effect_load(ends[1])):
-        if left_many(ends[0]) != left_many(ends[1]):
-            return row
-    return None
+    row, ends = spanning(start, moves_of, loads_of, is_parted)[-1]
+    return row if is_parted(ends) else None
 
 
 def same_numbers(one, other):
