@@ -68,6 +68,40 @@ Chapter 7:
     >>> late = Device([(1, 0, 0), (0, 1, 0)])
     >>> three_things(late, "ab"), effects_total(late)
     ((((0, (1, 0)),), (0, 1), (1, 0)), 4)
+
+Chapter 8:
+
+    >>> from backinstep.clocks import Clocks
+    >>> from backinstep.counted import first_leaving, nth_round, rounds_by_hour, settled_length, total_left
+    >>> device = Device([(1, 0, 3, 4, 2, 0), (0, 1, 3, 4, 2, 2)])
+    >>> clocks = Clocks(device)
+    >>> clocks.districts, clocks.joint_rows, clocks.alone_numbers(), clocks.beats()
+    (((0, 1), (2, 3, 4)), ('', 'a', 'b', 'aa', 'ab', 'aaa'), ((0, 2), (2, 2), (3, 1), (5, 1)), 3)
+    >>> clocks.left_by_counts((3, 3)), clocks.left_places("ababab"), clocks.joint_of((10 ** 18, 1))
+    (3, (2, 3, 4), 3)
+    >>> rounds_by_hour(clocks, 3), total_left(device, 3), settled_length(clocks)
+    ((3, 0, 0, 0, 0, 3), 24, 3)
+    >>> first_leaving(clocks, 2), nth_round(clocks, 4, 2, 3)
+    ('aabb', 'baab')
+
+Chapter 9:
+
+    >>> from backinstep.lots import chain_paper, lot_levels, lot_table
+    >>> from backinstep.roots import weight_roots
+    >>> fall = Device([(0, 0, 1), (0, 1, 1)])
+    >>> lot_table(fall)
+    (('', True, 3, 3), ('a', True, 1, 1), ('b', True, 2, 2), ('ab', True, 1, 1))
+    >>> lot_levels(fall), weight_roots(fall, (5, -2))
+    ((('', 1), ('b', 1), ('ab', 1)), (-2, 0, 3))
+    >>> chain_paper(Device([(1, 0, 2), (0, 2, 1)]))
+    ('exchange', 'ab', 'a', 'b')
+
+Chapter 10, the rows of the module of late-comers:
+
+    >>> from backinstep.late import lasting_states, notes_needed
+    >>> line = Device([(0, 0, 1), (0, 1, 2)])
+    >>> lasting_states(line, ["ab"]), [notes_needed(line, ["ab"], given, 1) for given in (0, 1, 2)]
+    ((0,), [2, 1, 1])
 """
 
 import doctest
@@ -80,7 +114,7 @@ class ExampleTest(unittest.TestCase):
 
     def test_document(self):
         result = doctest.testmod(sys.modules[__name__])
-        self.assertEqual((result.failed, result.attempted > 30), (0, True))
+        self.assertEqual((result.failed, result.attempted > 50), (0, True))
 
     def test_readme(self):
         readme = pathlib.Path(__file__).resolve().parent.parent / "README.md"

@@ -55,6 +55,21 @@ FUNCTIONS = {
     "entries": """joint_stair(device) joint_size(device) all_seats(device) all_entries(device) row_entries(device, row)
         three_things(device, row) made_effect(device, entries, seats, shift) made_row(device, entries, seats, shift)
         effects_total(device) joined_three(device, one, other)""",
+    "counted": """rounds_of_counts(device, counts) rounds_by_hour(clocks, length, *, modulus=None)
+        rounds_leaving(clocks, length, number, *, modulus=None) total_left(device, length, *, modulus=None)
+        first_round(clocks, hour) first_leaving(clocks, number) settled_length(clocks) hours_at(clocks, length)
+        limit_share(clocks, length, number) nth_round(clocks, length, number, place) place_of_round(clocks, row)""",
+    "spaces": "moved_load(device, load, row) chain_sizes(device) is_right(device) is_which(device)",
+    "lots": """lot_hours(device, lot) lot_table(device) wrong_lot(device) unlike_lot(device) spanning_rows(device)
+        wrong_exchange(device) chain_paper(device) chain_holds(device, value) which_rows(device) triangle_paper(device)
+        triangle_holds(device, value) lot_levels(device) closed_lot(device, lot) gathering_lots(device)
+        gather_row(device) left_by_counts(device, counts)""",
+    "roots": """weighted_table(device, weights) root_polynomial(device, weights) clock_polynomial(hours, lot, weights)
+        weight_roots(device, weights) weight_trace(device, weights, times, modulus) check_levels(signals, value)
+        star_device(signals, value) joined_levels(signals, one, other) crossed_levels(signals, one, other)
+        clock_shares(device) parting_row(one, other) same_numbers(one, other)""",
+    "late": """lasting_states(device, family) lasting_classes(device, family) behind_states(device, family, given)
+        notes_needed(device, family, given, later) lasting_paper(device, family) lasting_holds(device, family, value)""",
 }
 CLASSES = {
     ("devices", "Device"): """__init__(tables) step(state, signal) after(state, row) effect(row) places(row)
@@ -65,6 +80,9 @@ CLASSES = {
     ("hours", "Hours"): """__init__(device, number) hour_at(state) states_at(hour) moved_hour(hour, counts)
         is_kept(counts) turns_of(counts) hours_list()""",
     ("dealings", "Dealing"): "__init__(hours, stair)",
+    ("clocks", "Clocks"): """__init__(device) joint_after(hour, row) joint_of(counts) home(hour) alone(hour)
+        left_by_counts(counts) alone_numbers() hour_period(hour) whole_period() same_beat() beats() beat_of(hour)
+        left_places(row) district_meet(one, other)""",
     ("kept", "Keeper"): "__init__(device, family, pair) hear(row) standing() more_rounds() next_row()",
 }
 ERRORS = {
