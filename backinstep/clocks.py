@@ -34,6 +34,7 @@ class Clocks:
         self.joint_many = len(self.rests)
         self.joint_tables = tuple([
             tuple([self.numbers[self.rest_behind(rest, sign)] for rest in self.rests]) for sign in device.signals])
+        self.homes = tuple([self.kept_by(rest) for rest in self.rests])
 
     def rest_behind(self, rest, sign):
         """The rest of counts with one signal more."""
@@ -44,6 +45,10 @@ class Clocks:
         signals = self.device.signals
         start = tuple([0] * len(signals))
         return first_rows(start, lambda rest: [(sign, self.rest_behind(rest, sign)) for sign in signals])
+
+    def kept_by(self, rest):
+        """The numbers of the districts whose hour counts with a rest do not move."""
+        return tuple([number for number, stair in enumerate(self.stairs) if in_stair(stair, rest)])
 
     def check_hour(self, hour):
         """Raise Refused for any value that is no number of a joint hour."""
@@ -64,7 +69,7 @@ class Clocks:
     def home(self, hour):
         """The numbers of the districts whose hour is not moved."""
         self.check_hour(hour)
-        return tuple([number for number, stair in enumerate(self.stairs) if in_stair(stair, self.rests[hour])])
+        return self.homes[hour]
 
     def alone(self, hour):
         """How many states each round with a joint hour leaves alone."""

@@ -59,8 +59,7 @@ def lot_signs(signals):
 
 def hour_sums(clocks):
     """By two joint hours that of a row with the first and then one with the second."""
-    hours = range(clocks.joint_many)
-    return [[clocks.joint_after(hour, row) for row in clocks.joint_rows] for hour in hours]
+    return [[clocks.joint_after(hour, row) for row in clocks.joint_rows] for hour in range(clocks.joint_many)]
 
 
 def rows_by_hour(clocks, sums, lot, length, modulus):

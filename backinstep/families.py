@@ -132,18 +132,14 @@ def led_from(moves_of, places):
 
 def behind_round(moves_of, steps, places):
     """The places to which rounds, perhaps with more signals, lead some places."""
-    ahead = {}
-    queue = [(place, "") for place in places]
-    seen = {node: True for node in queue}
-    at = 0
-    while at < len(queue):
-        place, lot = queue[at]
+
+    def moves_on(node):
+        place, lot = node
+        ahead = []
         for sign, goal in moves_of(place):
-            node = (goal, steps[(lot, sign)])
-            if node[1] == "":
-                ahead[goal] = True
-            elif node not in seen:
-                seen[node] = True
-                queue.append(node)
-        at += 1
-    return led_from(moves_of, list(ahead))
+            # None stands for the lot once a round is over
+            more = None if lot is None or steps[(lot, sign)] == "" else steps[(lot, sign)]
+            ahead.append((sign, (goal, more)))
+        return ahead
+
+    return [place for place, lot in led_from(moves_on, [(place, "") for place in places]) if lot is None]

@@ -6,9 +6,9 @@ from backinstep.basics import (
 from backinstep.classes import group_pairs, joined_groups
 from backinstep.devices import Device
 from backinstep.errors import Refused, TooGreat
-from backinstep.families import check_family, lot_steps
+from backinstep.families import check_family, led_from, lot_steps
 from backinstep.sure import led_pair
-from backinstep.webs import pair_moves, strong_parts
+from backinstep.webs import first_rows, pair_moves, strong_parts
 
 MOST_ROUNDS = 60
 MOST_TABLES = 5
@@ -19,19 +19,12 @@ SPREAD = 10 ** 50
 
 def cut_graph(moves_of, steps, places):
     """By (place, lot since the last cut) its steps, as far as rows lead some places; a step to the lot "" is a cut."""
-    queue = [(place, "") for place in places]
-    graph = {node: () for node in queue}
-    at = 0
-    while at < len(queue):
-        place, lot = queue[at]
-        ahead = tuple([(sign, (goal, steps[(lot, sign)])) for sign, goal in moves_of(place)])
-        graph[queue[at]] = ahead
-        for _, node in ahead:
-            if node not in graph:
-                graph[node] = ()
-                queue.append(node)
-        at += 1
-    return graph
+
+    def moves_on(node):
+        place, lot = node
+        return tuple([(sign, (goal, steps[(lot, sign)])) for sign, goal in moves_of(place)])
+
+    return {node: moves_on(node) for node in led_from(moves_on, [(place, "") for place in places])}
 
 
 def cut_heights(graph):
@@ -63,21 +56,16 @@ def way_heights(graph, worth_of):
 
 def first_cuts(moves_of, steps, place, lot):
     """By place to which a row with its only cut at its end leads one the first such row, in their order."""
-    cuts = {}
-    rows = {(place, lot): ""}
-    queue = [(place, lot)]
-    at = 0
-    while at < len(queue):
-        node = queue[at]
-        for sign, goal in moves_of(node[0]):
-            more = (goal, steps[(node[1], sign)])
-            if more[1] == "" and goal not in cuts:
-                cuts[goal] = rows[node] + sign
-            elif more[1] != "" and more not in rows:
-                rows[more] = rows[node] + sign
-                queue.append(more)
-        at += 1
-    return cuts
+
+    def moves_on(node):
+        # None stands for the lot behind the cut, where the row ends
+        if node[1] is None:
+            return []
+        ahead = [(sign, goal, steps[(node[1], sign)]) for sign, goal in moves_of(node[0])]
+        return [(sign, (goal, None if more == "" else more)) for sign, goal, more in ahead]
+
+    rows = first_rows((place, lot), moves_on)
+    return {goal: row for (goal, more), row in rows.items() if more is None}
 
 
 def first_cut_row(moves_of, steps, place, many):

@@ -273,7 +273,8 @@ def triangle_paper(device):
     rows = []
     while len(rows) < device.states:
         for told in lots:
-            for load in level_loads(device, basis, told):
+            loads = level_loads(device, basis, told)
+            for load in loads:
                 take_load(basis, load)
                 rows.append((tuple(load), told))
     return "triangle", tuple(rows)

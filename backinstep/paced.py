@@ -135,7 +135,8 @@ def longest_way(start, steps_of):
         if waiting:
             stack.extend(waiting)
         else:
-            best[stack.pop()] = max([(best[goal][0] + 1, sign, goal) for sign, goal in ahead], default=(0, "", node))
+            stack.pop()
+            best[node] = max([(best[goal][0] + 1, sign, goal) for sign, goal in ahead], default=(0, "", node))
     row = []
     node = start
     while best[node][0] > 0:

@@ -195,8 +195,8 @@ def parting_row(one, other):
 
     # what a row leaves alone in both hangs on its two tables, and so on those of the rows that span them
     start = (tuple(range(one.states)), tuple(range(other.states)))
-    row, ends = spanning(start, moves_of, loads_of, is_parted)[-1]
-    return row if is_parted(ends) else None
+    row, last = spanning(start, moves_of, loads_of, is_parted)[-1]
+    return row if is_parted(last) else None
 
 
 def same_numbers(one, other):
