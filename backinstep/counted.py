@@ -3,9 +3,9 @@
 from math import comb, gcd
 
 from backinstep.basics import MOST_NUMBER, all_lots, check_number, check_row, is_number, lies_in
-from backinstep.devices import check_counts, signal_tables
+from backinstep.devices import check_counts
 from backinstep.errors import Refused, TooGreat
-from backinstep.spaces import power_trace
+from backinstep.spaces import power_trace, weighted_rows
 from backinstep.webs import first_rows
 
 MOST_SIGNALS = 600
@@ -120,18 +120,9 @@ def total_left(device, length, *, modulus=None):
         raise TooGreat(MOST_STATES)
     total = 0
     for lot, sign in lot_signs(device.signals):
-        total += sign * power_trace(lot_table_of(device, lot), length, modulus)
+        weights = [1 if told in lot else 0 for told in device.signals]
+        total += sign * power_trace(weighted_rows(device.tables, weights), length, modulus)
     return left_over(total, modulus)
-
-
-def lot_table_of(device, lot):
-    """By state by state how many signals of a lot lead there."""
-    rows = [[0] * device.states for _ in range(device.states)]
-    for sign, table in signal_tables(device).items():
-        if sign in lot:
-            for row, goal in zip(rows, table):
-                row[goal] += 1
-    return rows
 
 
 def round_rows(clocks):

@@ -142,4 +142,5 @@ def behind_round(moves_of, steps, places):
             ahead.append((sign, (goal, more)))
         return ahead
 
-    return [place for place, lot in led_from(moves_on, [(place, "") for place in places]) if lot is None]
+    nodes = led_from(moves_on, [(place, "") for place in places])
+    return [goal for goal, more in nodes if more is None]

@@ -269,7 +269,7 @@ def told_tower(groupings):
 def tower_device(groupings):
     """The device whose tower, for the single signals, the groupings are."""
     tower = told_tower(groupings)
-    leasts = [{state: group[0] for group in groups for state in group} for groups in tower]
+    leasts = [{state: told[0] for told in groups for state in told} for groups in tower]
     states = len(tower[0])
     tables = [[leasts[-1][state] for state in range(states)]]
     for at in range(1, len(tower) - 1):

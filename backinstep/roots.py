@@ -9,7 +9,7 @@ from backinstep.devices import Device, joined_effects
 from backinstep.errors import NotYes, Refused, TooGreat
 from backinstep.hours import device_hours
 from backinstep.lots import check_lot, lot_levels, spanning, unlike_lot
-from backinstep.spaces import effect_load, power_trace
+from backinstep.spaces import effect_load, power_trace, weighted_rows
 from backinstep.stairs import stair_of, stair_within
 from backinstep.stories import left_many
 from backinstep.verdicts import need_yes
@@ -28,16 +28,6 @@ def check_weights(device, weights):
         raise Refused(weights)
 
 
-def weighted_rows(tables, weights):
-    """By line by line the sum of the weights of the tables that lead there."""
-    size = len(tables[0])
-    rows = [[0] * size for _ in range(size)]
-    for table, weight in zip(tables, weights):
-        for row, goal in zip(rows, table):
-            row[goal] += weight
-    return rows
-
-
 def weighted_table(device, weights):
     """By state by state the sum of the weights of the signals that lead there."""
     check_weights(device, weights)
@@ -47,16 +37,16 @@ def weighted_table(device, weights):
 def polynomial_of(rows):
     """The numbers of the polynomial det(t - table) in t, the power 0 first."""
     size = len(rows)
-    short = [[(at, number) for at, number in enumerate(row) if number != 0] for row in rows]
+    short = [[(goal, weight) for goal, weight in enumerate(line) if weight != 0] for line in rows]
     numbers = [1]
     # Leverrier's way: each number comes of the trace of the table times what the numbers ahead make
     product_rows = [[0] * size for _ in range(size)]
     for step in range(1, size + 1):
-        for at, row in enumerate(product_rows):
-            row[at] += numbers[-1]
+        added_rows = [row[:at] + [row[at] + numbers[-1]] + row[at + 1:] for at, row in enumerate(product_rows)]
         product_rows = [
-            [sum([number * product_rows[at][column] for at, number in row]) for column in range(size)] for row in short]
-        numbers.append(-sum([product_rows[at][at] for at in range(size)]) // step)
+            [sum([weight * added_rows[goal][column] for goal, weight in line]) for column in range(size)]
+            for line in short]
+        numbers.append(-sum([product_rows[place][place] for place in range(size)]) // step)
     return tuple(numbers[::-1])
 
 

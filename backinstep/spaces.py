@@ -55,6 +55,16 @@ def effect_load(effect):
     return load
 
 
+def weighted_rows(tables, weights):
+    """By state by state the sum of the weights of the tables that lead there."""
+    size = len(tables[0])
+    rows = [[0] * size for _ in range(size)]
+    for table, weight in zip(tables, weights):
+        for state, goal in enumerate(table):
+            rows[state][goal] += weight
+    return rows
+
+
 def power_trace(table, times, modulus):
     """The numbers at the places (i, i) of a table taken so many times, added up; modulo a number if it is not None."""
     size = len(table)
