@@ -115,11 +115,9 @@ def out_holds(device, family, value):
     word, state, row, again = value
     if word != "out" or not is_state(device, state) or not is_row(device, row) or not is_row(device, again):
         return False
-    outside = outsiders(device)
+    # what is led to an outsider is one itself
     place = row_end(device, state, row)
-    if state not in outside or place not in outside:
-        return False
-    return fills(told, again) and row_end(device, place, again) == place
+    return place in outsiders(device) and fills(told, again) and row_end(device, place, again) == place
 
 
 def outside_moves(device):

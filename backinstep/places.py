@@ -88,10 +88,9 @@ def sides_bound(device, family, many):
     check_number(many)
     tower = tower_groupings(device, family)
     last = len(stairs) - 1
-    nears = [(near, many - near) for near in range(min(many, last) + 1)]
-    # behind the last stair nothing is new, so there the other number may be any
-    fars = [(many - far, far) for far in range(min(many, last) + 1)]
-    return min([met_sum(stairs[min(near, last)], tower[min(far, last)], len(stairs[0])) for near, far in nears + fars])
+    # behind the last stair nothing is new, and a lesser number for the tower only tells more classes apart
+    nears = range(min(many, last) + 1)
+    return min([met_sum(stairs[near], tower[min(many - near, last)], len(stairs[0])) for near in nears])
 
 
 def met_sum(groups, classes, many):

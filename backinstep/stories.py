@@ -28,8 +28,9 @@ def left_many(effect):
 
 
 def unlike_exchange(device, effect, lot):
-    """The first signals x before y that make, with a lot, a round, and whose exchange ahead of an effect leaves another
-    number alone; or None.
+    """The first signals x before y whose exchange ahead of an effect leaves another number alone, or None.
+
+    With the signals of a lot they are all signals.
     """
     tables = signal_tables(device)
     for one in device.signals:
@@ -50,8 +51,8 @@ def unlike_paper(device):
         return None
     again = paper[2]
     times = Turn(device, again).square_at()
-    # told no, some row with the square of this round in it parts two signals; those whose tables are sums of
-    # multiples of others' part no more than these do
+    # what the square of this round keeps wrongly shows ahead of some row with the square in it; rows whose tables are
+    # sums of multiples of others' show no more than these
     basis = {}
     queue = [("", "", said_effect(row_effect(device, again), times))]
     take_load(basis, effect_load(queue[0][2]))

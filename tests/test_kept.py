@@ -260,7 +260,9 @@ class TowerDeviceTest(Case):
 
     def test_refused(self):
         single = [[0], [1], [2]]
+        four = single + [[3]]
         for value in any_values() + [
+                [four, [[0, 1], [2], [3]], [[0, 2], [1, 3]]], [four, [[0, 1, 2], [3], []]], [four, [[0, 1, 2], (), [3]]],
                 [single, single], [[[0, 1], [2]]], [single, [[0, 1], [2]], [[0], [1, 2]]], [single, [[0, 1]]],
                 [single, [[0, 1], [2], []]], [single, [[0, 1], [1, 2]]], [single, [[0, 1], [2, 2]]], [single, [[0, 3], [1, 2]]],
                 [[[0], [True]]], [[[False]]], [[[0], [1], [2.5]]], [[[0], [2]]], [[[1], [2]]], [single, None], [single, [0, 1, 2]],

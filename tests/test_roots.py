@@ -173,6 +173,8 @@ class PolynomialTest(Case):
                 self.refuses(Refused, value, clock_polynomial, hours, value, None)
         self.refuses(NotYes, "a", weight_roots, CROSS, (-10 ** 6, 10 ** 6))
         self.refuses(NotYes, "a", weight_roots, Device([[1, 0]]), (1,))
+        self.refuses(Refused, 10 ** 9 + 1, weight_trace, FALL, (1, 1), 1, 10 ** 9 + 1)
+        self.refuses(Refused, HUGE + 1, weight_trace, FALL, (1, 1), HUGE + 1, 1)
 
 
 class StarTest(Case):
