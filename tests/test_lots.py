@@ -244,6 +244,8 @@ class LoadTest(Case):
             self.assertEqual(told[-1] == 0, is_right(device))
             self.assertEqual(list(told), sorted(set(told), reverse=True))
         self.assertEqual((chain_sizes(Device([[0]])), chain_sizes(FALL), chain_sizes(CROSS)), ((1, 0), (3, 1, 0), (3, 2)))
+        # only what is at the first state minds the order
+        self.assertEqual(chain_sizes(Device([(1, 1, 2), (2, 1, 2)])), (3, 1, 0))
 
     def plain_holds(self, device, value):
         seq = (list, tuple)

@@ -88,6 +88,24 @@ class UnlikeTest(Case):
         self.refuses(TooGreat, 8, unlike_paper, Device([list(range(9))]))
         self.refuses(TooGreat, 8, unlike_paper, Device([[(state + 1) % 9 for state in range(9)], [1, 0] + list(range(2, 9))]))
 
+    def test_long_papers(self):
+        """Devices for which a row must stand ahead of the round or behind it."""
+        devices = [
+            Device([(1, 2, 5, 4, 3, 0), (0, 1, 0, 0, 1, 4)]), Device([(2, 3, 1, 4, 0), (1, 1, 1, 1, 3)]),
+            Device([(2, 1, 3, 0), (1, 1, 1, 2)]), Device([(1, 2, 3, 0), (3, 3, 3, 2)])]
+        draw = Draw(269)
+        for _ in range(100):
+            states = 3 + draw.below(6)
+            devices.append(Device([draw.table(states) for _ in range(2 + draw.below(2))]))
+        shapes = set()
+        for device in devices:
+            paper = unlike_paper(device)
+            self.assertEqual(paper is None, is_yes(device))
+            if paper is not None:
+                self.assertTrue(unlike_holds(device, paper))
+                shapes.add((len(paper[1]), min(len(paper[1][0][0]), 3)))
+        self.assertEqual(shapes, {(2, 2), (2, 3), (3, 2), (3, 3)})
+
     def test_bent(self):
         draw = Draw(264)
         faults = {}
