@@ -21,11 +21,6 @@ MOST_EXCHANGED = 9998
 MOST_SPACES = 60
 
 
-def hours_of_lot(device, lot):
-    """How many hours all closed districts have with the signals of a known lot alone."""
-    return device.states if lot == "" else hour_total(few_signals(device, lot))
-
-
 def lot_table(device):
     """Of each lot whether the device is told yes with its signals alone, how many hours and how many classes it has."""
     lines = [("", True, device.states, device.states)]
@@ -43,8 +38,7 @@ def check_lot(device, lot):
 
 def lot_hours(device, lot):
     """How many hours all closed districts have with the signals of a lot alone."""
-    check_lot(device, lot)
-    return hours_of_lot(device, lot)
+    return device.states if lot == "" else hour_total(few_signals(device, lot))
 
 
 def wrong_lot(device):
@@ -137,7 +131,7 @@ def wrong_exchange(device):
 def chain_paper(device):
     """The paper of the chain of a right device, of an exchange of any other one."""
     spaces = chain_spaces(device)
-    if not spaces or spaces[-1]:
+    if spaces[-1]:
         return ("exchange",) + wrong_exchange(device)
     return "chain", tuple([tuple([tuple(load) for load in loads]) for loads in spaces])
 
@@ -225,7 +219,7 @@ def unlike_rounds(device):
 def level_numbers(device):
     """By lot, in their order, its level."""
     lots = ("",) + all_lots(device.signals)
-    hours = {lot: hours_of_lot(device, lot) for lot in lots}
+    hours = {lot: lot_hours(device, lot) for lot in lots}
     levels = {}
     # the hours of a lot are the levels of all lots that have all its signals
     for lot in reversed(lots):
@@ -249,10 +243,10 @@ def closed_lot(device, lot):
 def gathering_lots(device):
     """The least lots with as many hours as all signals, in the order of lots."""
     need_right(device)
-    many = hours_of_lot(device, device.signals)
+    many = lot_hours(device, device.signals)
     lots = []
     for lot in ("",) + all_lots(device.signals):
-        if hours_of_lot(device, lot) == many and not any([lies_in(less, lot) for less in lots]):
+        if lot_hours(device, lot) == many and not any([lies_in(less, lot) for less in lots]):
             lots.append(lot)
     return tuple(lots)
 

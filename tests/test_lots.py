@@ -324,6 +324,9 @@ class LoadTest(Case):
         self.assertTrue(chain_holds(CROSS, ["exchange", "ab" + "aa" * 4998, "a", "b"]))
         self.assertFalse(chain_holds(CROSS, ["exchange", "ab" + "aa" * 4999, "a", "b"]))
         self.assertFalse(chain_holds(CROSS, ["exchange", "ab", "b", "a"]))
+        idle = Device(list(CROSS.tables) + [(0, 1, 2)])
+        self.assertTrue(chain_holds(idle, ["exchange", "ab" + "c" * 9996, "a", "b"]))
+        self.assertFalse(chain_holds(idle, ["exchange", "ab" + "c" * 9997, "a", "b"]))
 
 
 class WhichTest(Case):
