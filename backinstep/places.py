@@ -3,23 +3,20 @@
 from backinstep.basics import check_number, is_state
 from backinstep.classes import class_stairs, group_numbers
 from backinstep.errors import Refused
-from backinstep.families import check_family, lot_steps
+from backinstep.families import check_family, led_from, lot_steps
 from backinstep.kept import MOST_ROUNDS, cut_graph, cut_heights, first_cut_row, tower_groupings
 from backinstep.webs import first_rows, strong_parts
 
 
-def image_moves(device, least):
-    """By a tuple of states the steps to those that they are led to, at least so many; kept once they are asked for."""
-    known = {}
+def image_moves(device, states, least):
+    """By the states to which rows lead some states, at least so many, the steps to such states."""
     tables = list(zip(device.signals, device.tables))
 
-    def moves_of(states):
-        if states not in known:
-            ends = [(sign, tuple(sorted(set([table[state] for state in states])))) for sign, table in tables]
-            known[states] = tuple([(sign, places) for sign, places in ends if len(places) >= least])
-        return known[states]
+    def steps_of(places):
+        ends = [(sign, tuple(sorted(set([table[state] for state in places])))) for sign, table in tables]
+        return [(sign, goals) for sign, goals in ends if len(goals) >= least]
 
-    return moves_of
+    return {places: steps_of(places) for places in led_from(steps_of, [states])}
 
 
 def all_states(device):
@@ -29,8 +26,8 @@ def all_states(device):
 
 def most_cuts(device, steps, states, least):
     """The most cuts of a row that leads some states to at least so many, None if there is no most."""
-    heights = cut_heights(cut_graph(image_moves(device, least), steps, [states]))
-    return heights[(states, "")]
+    moves = image_moves(device, states, least)
+    return cut_heights(cut_graph(lambda places: moves[places], steps, [states]))[(states, "")]
 
 
 def most_places(device, family):
@@ -51,25 +48,22 @@ def places_row(device, family, many):
     told = check_family(device, family)
     check_number(many, 0, MOST_ROUNDS)
     numbers = most_places(device, told)
-    least = numbers[min(many, len(numbers) - 1)]
-    return first_cut_row(image_moves(device, least), lot_steps(device, told), all_states(device), many)
+    moves = image_moves(device, all_states(device), numbers[min(many, len(numbers) - 1)])
+    return first_cut_row(lambda places: moves[places], lot_steps(device, told), all_states(device), many)
 
 
 def places_kept(device, family):
     """A row that leads all states to so many as can be kept, and a round that leads these to just these."""
     told = check_family(device, family)
-    least = most_places(device, told)[-1]
-    graph = cut_graph(image_moves(device, least), lot_steps(device, told), [all_states(device)])
-    for part in strong_parts(graph):
-        inside = {node: True for node in part}
-        for node in part:
-            for sign, goal in graph[node]:
-                if goal in inside and goal[1] == "":
-                    # the step is a cut, so what leads its goal to itself by it is a round
-                    ahead = first_rows((all_states(device), ""), lambda place: graph[place])
-                    back = first_rows(goal, lambda place: graph[place])
-                    return ahead[goal], back[node] + sign
-    return None
+    moves = image_moves(device, all_states(device), most_places(device, told)[-1])
+    graph = cut_graph(lambda places: moves[places], lot_steps(device, told), [all_states(device)])
+    part_of = {node: at for at, part in enumerate(strong_parts(graph)) for node in part}
+    # a row that leads a place to itself and ends with a cut is a round
+    cuts = [(node, sign, goal) for node, steps in graph.items() for sign, goal in steps if goal[1] == ""]
+    node, sign, goal = [cut for cut in cuts if part_of[cut[0]] == part_of[cut[2]]][0]
+    ahead = first_rows((all_states(device), ""), lambda place: graph[place])
+    back = first_rows(goal, lambda place: graph[place])
+    return ahead[goal], back[node] + sign
 
 
 def apart_rounds(device, family, states):
