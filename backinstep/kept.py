@@ -29,11 +29,6 @@ def cut_graph(moves_of, steps, places):
 
 def cut_heights(graph):
     """By node of such a graph the most cuts of a way from it, None if there is no most."""
-    return way_heights(graph, lambda goal: 1 if goal[1] == "" else 0)
-
-
-def way_heights(graph, worth_of):
-    """By node the most that a way from it is worth by the nodes that it comes to, None if there is no most."""
     heights = {}
     # the parts from which no step leads to another one stand last
     for part in reversed(strong_parts(graph)):
@@ -42,29 +37,30 @@ def way_heights(graph, worth_of):
         gains = [0]
         for node in part:
             for _, goal in graph[node]:
-                worth = worth_of(goal)
+                cuts = 1 if goal[1] == "" else 0
                 if goal in inside:
-                    endless = endless or worth > 0
+                    endless = endless or cuts > 0
                 elif heights[goal] is None:
                     endless = True
                 else:
-                    gains.append(heights[goal] + worth)
+                    gains.append(heights[goal] + cuts)
         for node in part:
             heights[node] = None if endless else max(gains)
     return heights
 
 
+def steps_to_cut(moves_of, steps, node):
+    """The steps of a place and the lot since the last cut; behind a cut the lot is None, and there are no steps."""
+    place, lot = node
+    if lot is None:
+        return []
+    ahead = [(sign, goal, steps[(lot, sign)]) for sign, goal in moves_of(place)]
+    return [(sign, (goal, None if more == "" else more)) for sign, goal, more in ahead]
+
+
 def first_cuts(moves_of, steps, place, lot):
     """By place to which a row with its only cut at its end leads one the first such row, in their order."""
-
-    def moves_on(node):
-        # None stands for the lot behind the cut, where the row ends
-        if node[1] is None:
-            return []
-        ahead = [(sign, goal, steps[(node[1], sign)]) for sign, goal in moves_of(node[0])]
-        return [(sign, (goal, None if more == "" else more)) for sign, goal, more in ahead]
-
-    rows = first_rows((place, lot), moves_on)
+    rows = first_rows((place, lot), lambda node: steps_to_cut(moves_of, steps, node))
     return {goal: row for (goal, more), row in rows.items() if more is None}
 
 

@@ -2,8 +2,8 @@
 
 from backinstep.basics import check_number, check_pair
 from backinstep.families import check_family, led_from, lot_steps
-from backinstep.kept import first_cuts, towered, way_heights
-from backinstep.webs import first_rows, pair_moves, strong_parts
+from backinstep.kept import first_cuts, steps_to_cut, towered
+from backinstep.webs import pair_moves
 
 MOST_PACE = 100
 
@@ -13,50 +13,59 @@ def check_pace(pace):
     check_number(pace, 1, MOST_PACE)
 
 
-def round_graph(device, family, pairs):
-    """By pair, as far as rounds lead some pairs, its steps (round, pair) by the first of the shortest such rounds."""
+def round_sources(device, family):
+    """By (pair, lot since the last cut) the nodes from which a signal leads to it, None for the lot behind a cut."""
     moves = pair_moves(device)
     steps = lot_steps(device, family)
-    graph = {}
-    queue = list(pairs)
-    while queue:
-        pair = queue.pop()
-        if pair not in graph:
-            rows = first_cuts(lambda place: moves[place], steps, pair, "")
-            graph[pair] = tuple([(row, goal) for goal, row in rows.items()])
-            for goal in rows:
-                queue.append(goal)
-    return graph
+
+    def moves_on(node):
+        return steps_to_cut(lambda pair: moves[pair], steps, node)
+
+    sources = {}
+    for node in led_from(moves_on, [(pair, "") for pair in moves]):
+        for _, goal in moves_on(node):
+            sources.setdefault(goal, []).append(node)
+    return sources
 
 
-def paced_graph(graph, pace):
-    """The graph with rounds of at most so many signals."""
-    return {pair: tuple([(row, goal) for row, goal in steps if len(row) <= pace]) for pair, steps in graph.items()}
+def led_by_round(sources, pairs, goals, pace):
+    """Of some pairs those that a round of at most so many signals leads to a goal; of any length for None."""
+    layer = [(goal, None) for goal in goals]
+    seen = {node: True for node in layer}
+    many = 0
+    while layer and many != pace:
+        later = []
+        for node in layer:
+            for source in sources.get(node, []):
+                if source not in seen:
+                    seen[source] = True
+                    later.append(source)
+        layer = later
+        many += 1
+    return [pair for pair in pairs if (pair, "") in seen]
 
 
-def reached_graph(graph, pair):
-    """The graph as far as it leads a pair."""
-    return {place: graph[place] for place in led_from(lambda node: graph[node], [pair])}
-
-
-def endless_places(graph, pair):
-    """The pairs to which a graph leads a pair and that it leads to themselves, part by part."""
-    ahead = reached_graph(graph, pair)
-    parts = []
-    for part in strong_parts(ahead):
-        inside = {place: True for place in part}
-        if any([goal in inside for place in part for _, goal in ahead[place]]):
-            parts.append(part)
-    return parts
+def paced_heights(device, sources, pace):
+    """By pair the most such rounds that keep it apart, None if there is no most."""
+    pairs = list(pair_moves(device))
+    heights = {pair: 0 for pair in pairs}
+    later = led_by_round(sources, pairs, pairs, pace)
+    while len(later) < len(pairs):
+        for pair in later:
+            heights[pair] += 1
+        pairs = later
+        later = led_by_round(sources, pairs, pairs, pace)
+    # these come to one another for ever
+    for pair in pairs:
+        heights[pair] = None
+    return heights
 
 
 def paced_tower(device, family, pace):
     """The tower if only rounds with at most so many signals are looked at."""
     told = check_family(device, family)
     check_pace(pace)
-    pairs = list(pair_moves(device))
-    graph = paced_graph(round_graph(device, told, pairs), pace)
-    return towered(device.states, way_heights(graph, lambda goal: 1))
+    return towered(device.states, paced_heights(device, round_sources(device, told), pace))
 
 
 def paced_numbers(device, family, pace):
@@ -73,12 +82,21 @@ def least_pace(device, family, pair):
     """The least number of signals to which rounds can keep and keep a pair apart for ever, or None."""
     told = check_family(device, family)
     check_pair(device, pair)
-    graph = round_graph(device, told, [pair])
-    lengths = sorted(set([len(row) for steps in graph.values() for row, _ in steps]))
-    for length in lengths:
-        if endless_places(paced_graph(graph, length), pair):
-            return length
-    return None
+    sources = round_sources(device, told)
+    if paced_heights(device, sources, None)[pair] is not None:
+        return None
+    high = 1
+    while paced_heights(device, sources, high)[pair] is not None:
+        high = 2 * high
+    low = high // 2
+    # low is too little, high is enough
+    while high - low > 1:
+        middle = (low + high) // 2
+        if paced_heights(device, sources, middle)[pair] is None:
+            high = middle
+        else:
+            low = middle
+    return high
 
 
 def endless_row(device, family, pair, pace):
@@ -86,23 +104,33 @@ def endless_row(device, family, pair, pace):
     told = check_family(device, family)
     check_pair(device, pair)
     check_pace(pace)
-    graph = paced_graph(round_graph(device, told, [pair]), pace)
-    parts = endless_places(graph, pair)
-    if not parts:
+    heights = paced_heights(device, round_sources(device, told), pace)
+    if heights[pair] is not None:
         return None
-    start = parts[0][0]
-    row, goal = [step for step in graph[start] if step[1] in parts[0]][0]
-    ahead = first_rows(pair, lambda place: graph[place])
-    back = first_rows(goal, lambda place: graph[place])
-    return ahead[start], row + back[start]
+    moves = pair_moves(device)
+    steps = lot_steps(device, told)
+    places = []
+    rounds = []
+    while pair not in places:
+        places.append(pair)
+        rows = first_cuts(lambda place: moves[place], steps, pair, "")
+        goals = [goal for goal, row in rows.items() if len(row) <= pace and heights[goal] is None]
+        # one that came before is taken first
+        pair = min(goals, key=lambda goal: 0 if goal in places else 1)
+        rounds.append(rows[pair])
+    at = places.index(pair)
+    return "".join(rounds[:at]), "".join(rounds[at:])
 
 
 def longest_row(device, family, pair, pace):
     """A row of a pace with the most signals that keeps a pair apart, None if there is an endless one."""
-    if endless_row(device, family, pair, pace) is not None:
+    told = check_family(device, family)
+    check_pair(device, pair)
+    check_pace(pace)
+    if paced_heights(device, round_sources(device, told), pace)[pair] is None:
         return None
     moves = pair_moves(device)
-    steps = lot_steps(device, check_family(device, family))
+    steps = lot_steps(device, told)
 
     def steps_of(node):
         place, lot, many = node
