@@ -93,6 +93,12 @@ class PacedTest(Case):
                     if told is not None:
                         self.look(device, family, pair, pace, told)
 
+    def test_a_way_back_that_is_too_long(self):
+        # a round of three signals leads back sooner than those of two
+        device = Device([(2, 0, 3, 0), (0, 1, 2, 2)])
+        for pair in ((0, 1), (0, 2), (0, 3), (1, 2)):
+            self.look(device, ["ab"], pair, 2, endless_row(device, ["ab"], pair, 2))
+
     def look(self, device, family, pair, pace, told):
         row, again = told
         self.assertIsInstance(told, tuple)
