@@ -5,7 +5,7 @@ from backinstep.basics import (
 )
 from backinstep.devices import row_end, signal_tables
 from backinstep.families import check_family, fills, least_of, meets_all
-from backinstep.webs import Web, joined_pair
+from backinstep.webs import Web, joined_pair, pair_moves
 
 
 def is_kept_apart(web, family, pair):
@@ -149,6 +149,24 @@ def joining_row(device, pair):
         if sign is not None:
             return rows[place] + sign
     return None
+
+
+def joining_numbers(device):
+    """By pair that some row joins the fewest signals of such a row."""
+    moves = pair_moves(device)
+    sources = {pair: [] for pair in moves}
+    for pair, steps in moves.items():
+        for _, goal in steps:
+            sources[goal].append(pair)
+    layer = [pair for pair, steps in moves.items() if len(steps) < len(device.signals)]
+    numbers = {}
+    many = 0
+    while layer:
+        many += 1
+        for pair in layer:
+            numbers[pair] = many
+        layer = sorted(set([pair for goal in layer for pair in sources[goal] if pair not in numbers]))
+    return numbers
 
 
 def joined_knots(web):

@@ -80,6 +80,11 @@ def rings_period(rings):
     return period
 
 
+def effect_square(effect):
+    """An effect said until it is its own square."""
+    return said_effect(effect, rings_period(effect_rings(effect)) * len(effect))
+
+
 def ring_numbers(turn):
     """The lengths of the rings, ascending, each with how many rings have it."""
     numbers = {}

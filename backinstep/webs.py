@@ -25,12 +25,7 @@ class Web:
 
     def held_in(self, number):
         """The lot that a knot holds."""
-        within = {}
-        for node in self.knots[number]:
-            for sign, goal in self.moves[node]:
-                if self.numbers[goal] == number:
-                    within[sign] = True
-        return "".join(sorted(list(within)))
+        return held_lot(part_moves(self.moves, self.knots[number]))
 
     def great_by_knot(self):
         """By knot the great lots of its nodes."""
@@ -119,17 +114,8 @@ class Web:
         return any([move == sign and self.numbers[goal] == number for move, goal in self.moves[node]])
 
     def tour_of(self, number, start, signs):
-        """A row within a knot, from a node at which the first of some signals stays in it, with all of them."""
-        word = ""
-        place = start
-        for sign in signs:
-            if sign not in word:
-                rows = self.rows_from(place)
-                # what leaves the knot never comes to it again, so the way to a node that leads into it is within
-                edge = [node for node in rows if self.stays(number, node, sign)][0]
-                word = word + rows[edge] + sign
-                place = [goal for move, goal in self.moves[edge] if move == sign][0]
-        return word + self.rows_from(place)[start]
+        """A row within a knot, from a node of it back to this one, with all of some signals that the knot holds."""
+        return tour_back(part_moves(self.moves, self.knots[number]), start, signs)
 
     def just_lots(self, node):
         """The lots of which some row keeps a node in the web, gives all for ever and, in the end, no other signal."""
@@ -140,12 +126,7 @@ class Web:
     def holds_just(self, places, lot):
         """Whether some places come to one another by the signals of a lot alone, all of them in use."""
         few = {place: [(sign, goal) for sign, goal in self.moves[place] if sign in lot] for place in places}
-        for part in strong_parts(few):
-            inside = {place: True for place in part}
-            signs = {sign: True for place in part for sign, goal in few[place] if goal in inside}
-            if len(signs) == len(lot):
-                return True
-        return False
+        return any([held_lot(part_moves(few, part)) == lot for part in strong_parts(few)])
 
 
 def state_moves(device):
@@ -185,6 +166,30 @@ def first_rows(start, moves_of):
                 queue.append(goal)
         at += 1
     return rows
+
+
+def part_moves(moves, part):
+    """By node of a part its steps within the part."""
+    inside = {node: True for node in part}
+    return {node: [(sign, goal) for sign, goal in moves[node] if goal in inside] for node in part}
+
+
+def held_lot(moves):
+    """The lot of the signals by which some steps go."""
+    return "".join(sorted(set([sign for steps in list(moves.values()) for sign, _ in steps])))
+
+
+def tour_back(moves, start, signs):
+    """A row from a start back to it with all of some signals; each node comes to each other one."""
+    word = ""
+    place = start
+    for sign in signs:
+        if sign not in word:
+            rows = first_rows(place, lambda node: moves[node])
+            edge = [node for node in rows if sign in dict(moves[node])][0]
+            word = word + rows[edge] + sign
+            place = dict(moves[edge])[sign]
+    return word + first_rows(place, lambda node: moves[node])[start]
 
 
 def finish_order(moves):
