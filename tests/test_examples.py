@@ -96,12 +96,26 @@ Chapter 9:
     >>> chain_paper(Device([(1, 0, 2), (0, 2, 1)]))
     ('exchange', 'ab', 'a', 'b')
 
-Chapter 10, the rows of the module of late-comers:
+Chapter 10:
 
     >>> from backinstep.late import lasting_states, notes_needed
+    >>> from backinstep.listeners import least_listener, listener_rounds
     >>> line = Device([(0, 0, 1), (0, 1, 2)])
     >>> lasting_states(line, ["ab"]), [notes_needed(line, ["ab"], given, 1) for given in (0, 1, 2)]
     ((0,), [2, 1, 1])
+    >>> least_listener(line, ["ab"]).starts, listener_rounds(line, ["ab"], least_listener(line, ["ab"]))
+    ((0, 0, 0), 2)
+    >>> from backinstep.twain import meeting_counts
+    >>> stairs = [((2, 0), (0, 1)), ((1, 0), (0, 2)), ((1, 1), (0, 2))]
+    >>> meeting_counts(stairs[:2], [(1, 0), (0, 0)]), meeting_counts(stairs, [(1, 0), (0, 0), (0, 0)])
+    ((1, 0), None)
+
+Chapter 11, the row of the module of groupings:
+
+    >>> from backinstep.groupings import finest_yes
+    >>> device = Device([(2, 1, 2, 3), (1, 2, 0, 2)])
+    >>> finest_yes(device)
+    (0, 0, 0, 1)
 """
 
 import doctest

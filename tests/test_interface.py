@@ -70,6 +70,24 @@ FUNCTIONS = {
         clock_shares(device) parting_row(one, other) same_numbers(one, other)""",
     "late": """lasting_states(device, family) lasting_classes(device, family) behind_states(device, family, given)
         notes_needed(device, family, given, later) lasting_paper(device, family) lasting_holds(device, family, value)""",
+    "notes": """are_enough(device, family, notes) notes_rounds(device, family, notes) fooled_paper(device, family, notes)
+        fooled_holds(device, family, notes, value)""",
+    "listeners": """least_listener(device, family) listener_rounds(device, family, listener)
+        misled_paper(device, family, listener) misled_holds(device, family, listener, value)""",
+    "mistakes": """heals_mistake(device, family, said, heard, *, states=None)
+        mistaken_paper(device, family, said, heard, *, states=None) mistaken_holds(device, family, said, heard, value)
+        lasting_exchange(device, family, number) heals_exchanges(device, family, number)
+        kind_rows(device, family, *, most)""",
+    "twain": """beside_device(one, other) uniting_row(device, number) twain_rest(one, other, state, second)
+        twain_parts(one, other, first, second) meeting_hours(one, other, state, second)
+        meeting_row(one, other, state, second, hour, later) meeting_counts(stairs, vectors)""",
+    "groupings": """check_grouping(device, grouping) single_grouping(device) joined_grouping(device, pairs)
+        is_within(device, one, other) met_grouping(device, one, other) spanned_grouping(device, one, other)
+        all_groupings(device, *, most) grouped_device(device, grouping) finest_yes(device, family=None)
+        finest_together(device, family=None) finest_right(device) finest_counter(device)
+        finest_paper(device, family=None) check_finest(device, family, value) finest_holds(device, family, value)""",
+    "beside": """union_device(one, other) row_device(device, rows) row_family(device, rows, family=None)
+        is_split(device, one, other) first_split(device) split_pieces(device) yes_part(device, family=None)""",
 }
 CLASSES = {
     ("devices", "Device"): """__init__(tables) step(state, signal) after(state, row) effect(row) places(row)
@@ -84,6 +102,10 @@ CLASSES = {
         left_by_counts(counts) alone_numbers() hour_period(hour) whole_period() same_beat() beats() beat_of(hour)
         left_places(row) district_meet(one, other)""",
     ("kept", "Keeper"): "__init__(device, family, pair) hear(row) standing() more_rounds() next_row()",
+    ("notes", "Learner"): """__init__(device, family, note) hear(row) place_told() places_open() note_now()
+        rounds_heard() next_learner()""",
+    ("listeners", "Listener"): """__init__(device, says, moves, starts) __eq__(other) memory_after(state, row)
+        place_said(state, row)""",
 }
 ERRORS = {
     "at": "BadDevice BadRow BadText BadPieces BadCounts BadFamily Refused PaperFault", "most": "TooGreat",

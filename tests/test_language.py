@@ -175,7 +175,8 @@ class LanguageTest(unittest.TestCase):
             self.assertIsNone(node.returns)
             told = node.args
             self.assertFalse(told.posonlyargs or told.vararg or told.kwarg)
-            for default in told.defaults + told.kw_defaults:
+            # what stands behind a bare star may have no default value
+            for default in told.defaults + [told_value for told_value in told.kw_defaults if told_value]:
                 self.assertIsInstance(default, (ast.Constant, ast.Name), f"{name}: {node.name}")
             if node.name.startswith("__"):
                 self.assertIn(node.name, DOUBLE)
