@@ -97,16 +97,20 @@ def moved_place(homes, state, counts):
     return entry_at(homes[state], state, counts) if state in homes else (state,)
 
 
-def seat_rows(device):
-    """By seats the first row that has them."""
+def image_rows(device):
+    """By the states that are taken behind some row the first such row, in the order of these rows."""
     tables = list(zip(device.signals, device.tables))
 
     def moves_of(states):
         return [(sign, tuple(sorted(set([table[state] for state in states])))) for sign, table in tables]
 
-    rows = first_rows(tuple(range(device.states)), moves_of)
+    return first_rows(tuple(range(device.states)), moves_of)
+
+
+def seat_rows(device):
+    """By seats the first row that has them."""
     many = hour_total(device)
-    return {places: row for places, row in rows.items() if len(places) == many}
+    return {places: row for places, row in image_rows(device).items() if len(places) == many}
 
 
 def all_entries(device):

@@ -24,7 +24,8 @@ class Hours:
         rows = first_rows(self.root, lambda state: moves[state])
         self.walks = tuple([rows[state] for state in self.district])
         self.counts = {state: counts_of(device.signals, rows[state]) for state in self.district}
-        self.stair = stair_of(len(device.signals), [entry[2] for entry in step_sums(device, self.counts)])
+        sums = sorted(set([told for _, _, told in step_sums(device, self.counts)]))
+        self.stair = stair_of(len(device.signals), sums)
         self.size = stair_size(self.stair)
         self.by_state = {state: stair_rest(self.stair, self.counts[state]) for state in self.district}
 

@@ -44,7 +44,9 @@ def laid_rows(width, vectors):
     """
     rows = [[] for _ in range(width)]
     for vector in vectors:
-        rows = tidy_rows(rows_with(width, rows, list(vector)))
+        more = rows_with(width, rows, list(vector))
+        if more != rows:
+            rows = tidy_rows(more)
     return rows
 
 

@@ -8,7 +8,7 @@ from backinstep.devices import row_end
 from backinstep.errors import NotYes, PaperFault
 from backinstep.families import check_family, fills, meets_all, plain_family
 from backinstep.hours import like_pairs
-from backinstep.webs import Web, outsiders, pair_moves
+from backinstep.webs import Web, closed_knots, pair_moves
 
 
 def told_family(device, family):
@@ -18,13 +18,18 @@ def told_family(device, family):
 
 def wrong_parts(device, family):
     """The wrong knots for a checked family, each as (kind, web, number, lot of the family that it holds)."""
-    outside = outsiders(device)
-    like = {pair: True for pair in like_pairs(device)}
+    states = Web(device, "states")
+    inside = {state: True for district in closed_knots(states) for state in district}
     parts = []
-    for kind, web, nodes in (("out", Web(device, "states"), outside), ("pair", Web(device, "pairs"), like)):
-        for number, lot in full_lots(web, family).items():
-            if web.knots[number][0] in nodes:
-                parts.append((kind, web, number, lot))
+    for number, lot in full_lots(states, family).items():
+        if states.knots[number][0] not in inside:
+            parts.append(("out", states, number, lot))
+    pairs = Web(device, "pairs")
+    full = full_lots(pairs, family)
+    like = {pair: True for pair in like_pairs(device)} if full else {}
+    for number, lot in full.items():
+        if pairs.knots[number][0] in like:
+            parts.append(("pair", pairs, number, lot))
     return parts
 
 

@@ -267,14 +267,18 @@ def outer_lots(lots):
     return tuple(sorted([lot for lot in full if not any([lot != more and lies_in(lot, more) for more in full])]))
 
 
-def web_districts(device):
-    """The closed districts: knots of states from which no step leads out, by their least states."""
-    web = Web(device, "states")
+def closed_knots(web):
+    """The knots of a web of states from which no step leads out, by their least states."""
     closed = []
     for number, knot in enumerate(web.knots):
         if all([web.numbers[goal] == number for state in knot for _, goal in web.moves[state]]):
             closed.append(knot)
     return tuple(sorted(closed))
+
+
+def web_districts(device):
+    """The closed districts: knots of states from which no step leads out, by their least states."""
+    return closed_knots(Web(device, "states"))
 
 
 def outsiders(device):
