@@ -1,4 +1,4 @@
-"""The examples of the document, as far as their modules are there, and those of README.md.
+"""The examples of the document, and those of README.md.
 
 Chapter 3:
 
@@ -110,12 +110,25 @@ Chapter 10:
     >>> meeting_counts(stairs[:2], [(1, 0), (0, 0)]), meeting_counts(stairs, [(1, 0), (0, 0), (0, 0)])
     ((1, 0), None)
 
-Chapter 11, the row of the module of groupings:
+Chapter 11:
 
     >>> from backinstep.groupings import finest_yes
+    >>> from backinstep.mends import cure_row, fewest_ties, fewest_turns
     >>> device = Device([(2, 1, 2, 3), (1, 2, 0, 2)])
-    >>> finest_yes(device)
-    (0, 0, 0, 1)
+    >>> finest_yes(device), cure_row(device), fewest_ties(device)
+    ((0, 0, 0, 1), 'aba', ('ab',))
+    >>> fewest_turns(device, "yes", most=1000), fewest_turns(device, "together", most=1000)
+    (((0, 'a', 0),), ((0, 'b', 0),))
+
+Chapter 12:
+
+    >>> from backinstep.fates import fate_pairs
+    >>> from backinstep.fleets import fleet_rows, mend_number, state_offset
+    >>> device = Device([(1, 2, 3, 0, 0), (0, 1, 2, 3, 0)])
+    >>> state_offset(device, 0, 3), fleet_rows(device, (0, 1, 3, 3)), mend_number(device, ("ab",), 0, 2)
+    ((3, 0), ('', 'aaa', 'a', 'a'), 2)
+    >>> [fate for pair, fate in fate_pairs(device, ("ab",))][:4], fate_pairs(device, ("ab",))[9]
+    (['never', 'never', 'never', 'open'], ((3, 4), 'open'))
 """
 
 import doctest

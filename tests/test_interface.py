@@ -2,6 +2,8 @@
 
 import importlib
 import inspect
+import pathlib
+import re
 import unittest
 
 FUNCTIONS = {
@@ -88,6 +90,17 @@ FUNCTIONS = {
         finest_paper(device, family=None) check_finest(device, family, value) finest_holds(device, family, value)""",
     "beside": """union_device(one, other) row_device(device, rows) row_family(device, rows, family=None)
         is_split(device, one, other) first_split(device) split_pieces(device) yes_part(device, family=None)""",
+    "mends": """more_signals(device, table) is_commuting_table(device, table) keeping_tables(device) least_places(device)
+        cure_row(device) cure_paper(device) cure_holds(device, value) all_ties(device) fewest_ties(device, family=None)
+        turned_device(device, turns) turn_bounds(device) fewest_turns(device, wish, *, most)""",
+    "fates": """pair_fate(device, family, one, other) fate_pairs(device, family) fate_paper(device, family, one, other)
+        fate_holds(device, family, one, other, value)""",
+    "fleets": """state_offset(device, one, other) hour_row(hours, hour) fleet_rows(device, states)
+        mend_number(device, family, one, other) mend_paper(device, family, one, other)
+        mend_holds(device, family, one, other, value)""",
+    "checker": """paper_kinds() made_paper(device, kind, question) check_paper(device, value) paper_holds(device, value)
+        wrong_papers(device, values)""",
+    "books": "value_text(value) read_value(text) book_text(book) read_book(text)",
 }
 CLASSES = {
     ("devices", "Device"): """__init__(tables) step(state, signal) after(state, row) effect(row) places(row)
@@ -106,6 +119,12 @@ CLASSES = {
         rounds_heard() next_learner()""",
     ("listeners", "Listener"): """__init__(device, says, moves, starts) __eq__(other) memory_after(state, row)
         place_said(state, row)""",
+    ("books", "Book"): "__init__(device, papers) __len__() __contains__(value) __eq__(other) with_paper(paper)",
+    ("live", "Live"): """__init__(device, family) __len__() put_copy(state) tell_all(row, *, missed=())
+        tell_one(copy, row) turn_entry(state, signal, goal) take_family(family) undo_deed() redo_deed() within(work)
+        taken() together() fate(one, other) offset(one, other) fresh_rounds(copy) due_rounds(one, other) most_taken()
+        private_number(one, other) private_rows()""",
+    ("desk", "Desk"): "__init__() say(command)",
 }
 ERRORS = {
     "at": "BadDevice BadRow BadText BadPieces BadCounts BadFamily Refused PaperFault", "most": "TooGreat",
@@ -116,9 +135,8 @@ ERRORS = {
 def told_calls(text):
     """(name, parameters) of calls that are written one behind another."""
     calls = []
-    for part in text.split(")")[:-1]:
-        name, parameters = part.split("(")
-        calls.append((name.strip(), [word.strip() for word in parameters.split(",") if word.strip()]))
+    for name, parameters in re.findall(r"(\w+)\(((?:[^()]|\(\))*)\)", text):
+        calls.append((name, [word.strip() for word in parameters.split(",") if word.strip()]))
     return calls
 
 
@@ -127,7 +145,38 @@ def told_parameters(function):
     return [word for word in str(inspect.signature(function))[1:-1].split(", ") if word]
 
 
+def told_interface():
+    """By file of the package the names that the document lists under it, and by class its methods; {} without it."""
+    document = pathlib.Path(__file__).resolve().parent.parent.parent / "shared" / "DOC.md"
+    if not document.exists():
+        return {}, {}
+    names, methods = {}, {}
+    for place, text in re.findall(r"^- `backinstep/(\w+)\.py`: (.*)$", document.read_text(encoding="utf-8"), re.MULTILINE):
+        for name, listed in re.findall(r"class `(\w+)` \(([^)]*)\)", text):
+            methods[(place, name)] = re.findall(r"`(\w+)`", listed)
+        names[place] = re.findall(r"`(\w+)`", re.sub(r" \([^)]*\)", "", text))
+    return names, methods
+
+
 class InterfaceTest(unittest.TestCase):
+
+    def test_every_row_of_the_interface(self):
+        names, methods = told_interface()
+        if not names:
+            self.skipTest("the document is not here")
+        self.assertEqual(len(names), 38)
+        for place, listed in names.items():
+            module = importlib.import_module("backinstep." + place)
+            for name in listed:
+                self.assertEqual(getattr(module, name).__module__, module.__name__, name)
+                if place != "errors":
+                    told = [told for told, _ in told_calls(FUNCTIONS.get(place, ""))] + [made for _, made in CLASSES]
+                    self.assertIn(name, told)
+        for (place, name), listed in methods.items():
+            made = getattr(importlib.import_module("backinstep." + place), name)
+            for method in listed:
+                self.assertIn(method, vars(made))
+                self.assertIn(method, [told for told, _ in told_calls(CLASSES[(place, name)])])
 
     def test_functions_stand_in_their_files_with_their_parameters(self):
         for place, text in FUNCTIONS.items():

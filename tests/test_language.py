@@ -30,7 +30,7 @@ BARRED_NAMES = BARRED | set("""attrgetter breakpoint builtins compile copyright 
     getattr globals hasattr help id importlib license locals methodcaller os quit setattr super type vars sys""".split())
 WORDS = re.compile(r"\b(type|typing|typing_extensions|enum|Enum|IntEnum|StrEnum|Flag|IntFlag|Generic|Protocol|ABC|ABCMeta|"
                    r"namedtuple|NamedTuple|TypedDict|TYPE_CHECKING|abstractmethod)\b|dataclass|overload|contextmanager")
-DOUBLE = {"__init__", "__eq__", "__repr__", "__str__", "__len__"}
+DOUBLE = {"__init__", "__eq__", "__repr__", "__str__", "__len__", "__contains__"}
 ALLOWED_KEYWORDS = [
     ("sorted", "key"), ("sorted", "reverse"), ("min", "key"), ("max", "key"), ("min", "default"), ("max", "default"),
 ]
@@ -157,16 +157,26 @@ class LanguageTest(unittest.TestCase):
         for name, node in self.nodes(ast.stmt):
             self.assertIsInstance(node, STATEMENTS, f"{name}:{node.lineno}")
             if isinstance(node, ast.Try):
-                self.assertFalse(node.finalbody)
+                self.check_finally(name, node)
                 for handler in node.handlers:
-                    self.assertIsInstance(handler.type, ast.Name)
-                    self.assertTrue(handler.type.id.startswith(("Bad", "Paper", "Refused", "Too", "No", "Key")))
+                    kinds = handler.type.elts if isinstance(handler.type, ast.Tuple) else [handler.type]
+                    for kind in kinds:
+                        self.assertIsInstance(kind, ast.Name)
+                        self.assertTrue(kind.id.startswith(("Back", "Bad", "Paper", "Refused", "Too", "No", "Key")))
             if isinstance(node, ast.Raise):
                 self.assertIsInstance(node.exc, ast.Call)
                 self.assertIsInstance(node.exc.func, ast.Name)
                 self.assertFalse(node.exc.keywords)
             if isinstance(node, ast.Expr) and not isinstance(node.value, (ast.Call, ast.Constant)):
                 self.wrong(name, node, "L6 statement")
+
+    def check_finally(self, name, node):
+        """A block behind `finally` only assigns names, that were assigned before, to attributes."""
+        for at in node.finalbody:
+            self.assertIsInstance(at, ast.Assign, name)
+            for side in (at.targets[0], at.value):
+                for part in side.elts if isinstance(side, ast.Tuple) else [side]:
+                    self.assertIsInstance(part, ast.Attribute if side is at.targets[0] else ast.Name, name)
 
     def test_functions(self):
         for name, node in self.nodes(ast.FunctionDef):
@@ -177,7 +187,8 @@ class LanguageTest(unittest.TestCase):
             self.assertFalse(told.posonlyargs or told.vararg or told.kwarg)
             # what stands behind a bare star may have no default value
             for default in told.defaults + [told_value for told_value in told.kw_defaults if told_value]:
-                self.assertIsInstance(default, (ast.Constant, ast.Name), f"{name}: {node.name}")
+                plain = isinstance(default, (ast.Constant, ast.Name)) or ast.unparse(default) == "()"
+                self.assertTrue(plain, f"{name}: {node.name}")
             if node.name.startswith("__"):
                 self.assertIn(node.name, DOUBLE)
         for name, node in self.nodes(ast.ClassDef):
@@ -242,7 +253,7 @@ class LanguageTest(unittest.TestCase):
         for name, node in self.nodes(ast.Call):
             if method_name(node):
                 self.assertTrue(method_name(node) in own | VALUE_METHODS, f"{name}:{node.lineno}: {method_name(node)}")
-                self.assertFalse(node.keywords)
+                self.assertFalse(node.keywords and method_name(node) in VALUE_METHODS)
         self.assertFalse(assigned & {"items", "keys", "values", "pop", "update", "append", "clear", "extend", "insert",
                                      "remove", "reverse", "setdefault", "sort", "args", "format"})
 
@@ -288,8 +299,17 @@ class LanguageTest(unittest.TestCase):
             for op, right in zip(node.ops, node.comparators):
                 if isinstance(op, (ast.Is, ast.IsNot)):
                     self.assertTrue(isinstance(right, ast.Constant) and right.value in (None, True, False))
-        for name, node in self.nodes(ast.NamedExpr, ast.Starred, ast.Yield, ast.YieldFrom, ast.Await, ast.Set, ast.SetComp):
+        for name, node in self.nodes(ast.NamedExpr, ast.Yield, ast.YieldFrom, ast.Await, ast.Set, ast.SetComp):
             self.wrong(name, node, "is not used here")
+
+    def test_stars(self):
+        for name, tree in self.trees.items():
+            parents = parents_of(tree)
+            for node in ast.walk(tree):
+                if isinstance(node, ast.Starred):
+                    self.assertIsInstance(node.value, ast.Name, f"{name}:{node.lineno}")
+                    self.assertIsInstance(parents[node], ast.Call, f"{name}:{node.lineno}")
+                    self.assertTrue(called_name(parents[node]) and not hasattr(builtins, called_name(parents[node])))
 
     def test_generator_expressions(self):
         for name, tree in self.trees.items():
@@ -322,11 +342,21 @@ class LanguageTest(unittest.TestCase):
                     self.assertFalse(parents[node].keywords)
                 self.assertFalse(called_name(node) == "frozenset")
 
-    def test_keywords_of_builtins(self):
+    def test_keywords(self):
+        own = {node.name: node.args for _, node in self.nodes(ast.FunctionDef)}
         for name, node in self.nodes(ast.Call):
             for keyword in node.keywords:
-                told = (called_name(node), keyword.arg)
-                self.assertIn(told, ALLOWED_KEYWORDS)
+                called = called_name(node) or method_name(node)
+                if called in own:
+                    self.assertIn(keyword.arg, [told.arg for told in own[called].args + own[called].kwonlyargs])
+                else:
+                    self.assertIn((called, keyword.arg), ALLOWED_KEYWORDS, f"{name}:{node.lineno}")
+
+    def test_length(self):
+        for name, node in self.nodes(ast.FunctionDef):
+            if node.name == "__len__":
+                self.assertEqual(len(node.body), 1)
+                self.assertTrue(ast.unparse(node.body[0]).startswith("return len("))
 
     def test_loops_leave_alone_what_they_go_over(self):
         for name, node in self.nodes(ast.For):
@@ -351,6 +381,8 @@ class LanguageTest(unittest.TestCase):
                 if isinstance(node, ast.Name) and node.id in names:
                     parent = parents[node]
                     called = isinstance(parent, ast.Call) and (parent.func is node or called_name(parent) == "isinstance")
+                    if isinstance(parent, ast.Tuple):
+                        parent = parents[parent]
                     base = isinstance(parent, (ast.ClassDef, ast.ExceptHandler))
                     self.assertTrue(called or base, f"{name}:{node.lineno}")
 
