@@ -56,7 +56,7 @@ def fleet_rows(device, states):
     rows = hour_rows(hours)
 
     def rows_to(goal):
-        return [rows[stair_rest(hours.stair, vector_less(goal, hours.hour_at(state)))] for state in states]
+        return [rows[stair_rest(hours.stair, vector_less(goal, hours.hour_at(place)))] for place in states]
 
     fleets = [rows_to(goal) for goal in hours.hours_list()]
     totals = [sum([len(row) for row in fleet]) for fleet in fleets]

@@ -87,7 +87,7 @@ def wrong_moves(listener):
 
     def moves_of(node):
         state, memory = node
-        return [(sign, (table[state], told[memory])) for sign, table, told in tables]
+        return [(move, (table[state], told[memory])) for move, table, told in tables]
 
     moves = {node: moves_of(node) for node in led_from(moves_of, start_nodes(listener))}
     sources = {node: [] for node in moves}

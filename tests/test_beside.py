@@ -148,7 +148,7 @@ class SplitTest(Case):
 
     def test_pieces(self):
         many = set()
-        for device in small_devices(603, 100, states=5) + [clock(6, 1), clock(8, 1), Device([tuple(range(8))]), Device([[0]])]:
+        for device in small_devices(603, 100, states=5) + [clock(6, 1), clock(8, 1), Device([(0, 1, 2, 0)]), Device([tuple(range(8))]), Device([[0]])]:
             pieces = split_pieces(device=device)
             many.add(len(pieces))
             self.assertTrue(isinstance(pieces, tuple) and is_tupled(pieces))

@@ -254,6 +254,15 @@ class MendTest(Case):
         self.assertFalse(mend_holds(device, ["ab"], 1, 1, ["mend", 0, 0, [], []]))
         self.assertFalse(mend_holds(device, ["ab"], 1, 2, ["mend", 2, 1, [(1, "a")], [((1, 2), 1)]]))
 
+    def test_levels_that_fall_too_far(self):
+        # told to the first alone, one signal is enough where the paper tells two
+        ring = clock(3, 1)
+        levels = tuple(((one, other), (one - other) % 3) for one in range(3) for other in range(3) if one != other)
+        self.assertEqual(mend_number(ring, ["a"], 0, 1), 1)
+        self.assertFalse(mend_holds(ring, ["a"], 0, 1, ("mend", 0, 1, ((2, "a"), (2, "a")), levels)))
+        ones = tuple((place, 1) for place, _ in levels)
+        self.assertTrue(mend_holds(ring, ["a"], 0, 1, ("mend", 0, 1, ((1, "a"),), ones)))
+
     def test_made_devices(self):
         long = Device([[(state + 1) % 40 for state in range(40)]])
         self.assertEqual(mend_number(long, ["a"], 3, 33), 10)

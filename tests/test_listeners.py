@@ -204,6 +204,13 @@ class ListenerTest(Case):
         self.assertIsNone(listener_rounds(device, ["ab"], wrong))
         self.assertTrue(misled_holds(device, ["ab"], wrong, misled_paper(device, ["ab"], wrong)))
 
+    def test_a_class_of_several_states_and_none_lasting(self):
+        device = Device([(3, 3, 3, 3, 4), (4, 4, 4, 3, 4)])
+        self.assertEqual((sure_classes(device, ["ab"]), lasting_states(device, ["ab"])), (((0, 1, 2), (3,), (4,)), (3, 4)))
+        told = least_listener(device, ["ab"])
+        self.assertEqual((told.says, told.moves, told.starts), ((3, 4, 0), ((0, 1, 0), (0, 1, 1)), (2, 2, 2, 0, 1)))
+        self.assertEqual(listener_rounds(device, ["ab"], told), 1)
+
     def test_edges(self):
         one = Device([[0]])
         lone = Listener(one, [0], [[0]], [0])

@@ -330,6 +330,13 @@ class LiveTest(Case):
                     self.refuses(Refused, value, call, 2, value)
             if not isinstance(value, (list, tuple)) or len(value) == 0:
                 self.refuses(BadFamily, -1, live.take_family, value)
+        for copy in (3, 4, -3, 10 ** 18):
+            self.refuses(Refused, copy, live.tell_one, copy, "a")
+            self.refuses(Refused, copy, live.fresh_rounds, copy)
+            for call in (live.fate, live.offset, live.private_number, live.due_rounds):
+                self.refuses(Refused, copy, call, copy, 0)
+                self.refuses(Refused, copy, call, 0, copy)
+            self.refuses(Refused, (0, copy), live.tell_all, "a", missed=(0, copy))
         self.refuses(BadRow, 1, live.tell_all, "az", missed=None)
         self.refuses(BadRow, 10000, live.tell_one, 0, "a" * 10001)
         self.refuses(BadFamily, 0, live.take_family, ["ba"])

@@ -187,6 +187,10 @@ class CureTest(Case):
         self.assertTrue(cure_holds(STIRRED, ["sets", [(2, 0, 1)]]))
         self.assertFalse(cure_holds(STIRRED, ["sets", [(2, 0, 1), (0, 1)]]))
         self.assertFalse(cure_holds(STIRRED, ["sets", []]))
+        # signals keep these sets, but some have no more states than there are hours
+        self.assertEqual(hour_total(STIRRED), 1)
+        self.assertFalse(cure_holds(STIRRED, ["sets", [(0, 1, 2), (0,), (1,), (2,)]]))
+        self.assertTrue(cure_holds(STIRRED, ["sets", [(0, 1, 2), (0, 1), (1, 2), (0, 2)]]))
         self.assertTrue(cure_holds(TOLD, ["row", "aba" * 3333]))
         self.assertFalse(cure_holds(TOLD, ["row", "aba" * 3334]))
         self.assertTrue(cure_holds(clock(9, 1), ("row", "")))
@@ -304,6 +308,14 @@ class TurnTest(Case):
             self.assertLessEqual(told["yes"], told["together"])
         self.assertTrue({0, 1} <= lengths["yes"])
         self.assertTrue({0, 1, 2, 3} <= lengths["together"])
+
+    def test_fewest_of_neighbouring_entries(self):
+        # the last goal of one entry, then the first one of the next entry
+        for tables in ([(2, 3, 0, 1), (2, 0, 3, 1)], [(1, 0, 3, 2), (1, 3, 0, 2)], [(3, 2, 1, 0), (3, 0, 1, 2)]):
+            device = Device(tables)
+            plain, rank = self.plain_fewest(device, "together")
+            self.assertEqual([turn[:2] for turn in plain], [(0, "a"), (0, "b")])
+            self.assertTrue(same(fewest_turns(device, "together", most=rank), plain))
 
     def test_bounds(self):
         seen = set()

@@ -208,6 +208,9 @@ class MistakeTest(Case):
         self.refuses(BadRow, 2, heals_mistake, LINE, ["ab"], "abz", "z")
         self.refuses(BadRow, 0, heals_mistake, LINE, ["ab"], "ab", "z", states=[9])
         self.refuses(BadRow, 10000, mistaken_paper, LINE, ["ab"], "ab", "a" * 10001)
+        self.refuses(BadRow, 1, mistaken_holds, LINE, ["ab"], "az", None, None)
+        self.refuses(BadRow, 1, mistaken_holds, LINE, ["ab"], "a", "bz", None)
+        self.refuses(BadRow, 10000, mistaken_holds, LINE, ["ab"], "a" * 10001, "b", None)
         self.refuses(BadFamily, 0, lasting_exchange, LINE, ["ac"], -1)
 
 
